@@ -1,0 +1,161 @@
+"""Random designs and histories for the tests (a seed of its own for each)."""
+
+import random
+
+from unfooled.designs import Design
+from unfooled.errors import LookError
+from unfooled.kinds import Kind
+from unfooled.readers import Reader
+
+
+def random_kind(rng, name, slots, parts, counters, words, most):
+    while True:
+        texts = []
+        for _ in range(rng.randint(1, most)):
+            texts.append(random_kind_step(rng, slots, parts, counters, words))
+        try:
+            return Kind(name, texts)
+        except LookError:
+            pass
+
+
+def random_kind_step(rng, slots, parts, counters, words):
+    word = rng.choice(words)
+    slot, part = rng.choice(slots), rng.choice(parts)
+    if word == "bump" and not counters:
+        word = "aside"
+    texts = {"write": f"write {part}", "put": f"put {slot}", "over": f"over {slot} {part}",
+             "give": f"give {rng.choice([0, 0, 1, 2])}",
+             "givefree": f"give {rng.choice([0, 0, 1])} free"}
+    if word == "bump":
+        return f"bump {rng.choice(counters)}"
+    return texts.get(word, word)
+
+
+def swapping_kind(rng, name, slots, parts, counters, words, most):
+    """A kind that takes a cell and hangs it, with some random steps put in."""
+    texts = ["take", f"put {rng.choice(slots)}"]
+    tails = {"marks": [["aside", "give 0 free"], ["give 0 free", "aside"], ["aside", "wait", "give 0"]],
+             "ages": [["aside", "try", "give 1"], ["aside", "wait", "give 0"], ["aside", "try"],
+                      ["aside", "try", "give 2"], ["aside", "move", "give 1"]]}
+    taste = "marks" if "givefree" in words else "ages" if "move" in words else ""
+    if rng.random() < 0.7:
+        texts = texts + rng.choice(tails.get(taste, [["aside", "give 0"], ["aside", "give 0"]]))
+    while len(texts) < most and rng.random() < 0.85:
+        at = rng.randint(0, len(texts))
+        try:
+            texts = list(Kind(name, texts).with_more(
+                at, random_kind_step(rng, slots, parts, counters, words)).texts)
+        except LookError:
+            pass
+    return Kind(name, texts)
+
+
+def random_reader(rng, name, slots, parts, counters, words, most):
+    texts = []
+    many = rng.randint(1, most)
+    for _ in range(200):
+        if len(texts) >= many:
+            break
+        word = rng.choice(words)
+        slot, part = rng.choice(slots), rng.choice(parts)
+        nums = [at for at, text in enumerate(texts) if text.startswith("num")]
+        text = {"mark": f"mark {rng.choice('hi')} {slot}", "clear": f"clear {rng.choice('hi')}",
+                "read": f"read {slot}", "use": f"use {slot} {part}",
+                "look": f"look {slot}"}.get(word, word)
+        if word == "num":
+            if not counters:
+                continue
+            text = f"num {rng.choice(counters)}"
+        if word in ("same", "even"):
+            if not nums or word == "same" and len(nums) < 2:
+                continue
+            text = f"even {rng.choice(nums)}"
+            if word == "same":
+                low, high = sorted(rng.sample(nums, 2))
+                text = f"same {low} {high}"
+        try:
+            Reader(name, texts + [text])
+        except LookError:
+            continue
+        texts.append(text)
+    return Reader(name, texts or ["read " + slots[0]], rng.choice(["once", "again"]))
+
+
+READER_WORDS = {
+    "plain": ["read", "use", "use", "read", "look"],
+    "ages": ["read", "use", "use", "enter", "leave", "look", "fence"],
+    "marks": ["read", "use", "use", "look", "mark", "mark", "clear", "fence"],
+    "numbers": ["read", "use", "use", "num", "num", "same", "even", "look"],
+    "mixed": ["read", "use", "use", "look", "num", "num", "same", "even", "enter", "leave"],
+}
+KIND_WORDS = {
+    "plain": ["write", "put", "over", "aside", "give", "take"],
+    "ages": ["write", "put", "over", "aside", "give", "take", "try", "move", "wait", "fence"],
+    "marks": ["write", "put", "aside", "givefree", "givefree", "take", "move", "wait"],
+    "numbers": ["write", "put", "over", "aside", "give", "take", "bump", "bump"],
+    "mixed": ["write", "put", "over", "aside", "give", "take", "bump", "bump", "try", "wait",
+              "fence"],
+}
+
+
+def enters_before_checks(reader):
+    words = [text.split(" ")[0] for text in reader.texts]
+    seen = False
+    for word in words:
+        if word == "enter" and seen:
+            return False
+        seen = seen or word in ("look", "same", "even")
+    return True
+
+
+def marks_well(reader):
+    """The limits for readers with a step mark."""
+    words = [text.split(" ") for text in reader.texts]
+    marks = [at for at, row in enumerate(words) if row[0] == "mark"]
+    if not marks:
+        return True
+    if any(row[0] == "enter" for row in words) or len({words[at][2] for at in marks}) > 1:
+        return False
+    return all(row[0] in ("read", "mark", "use", "look", "fence") for row in words[:marks[-1]])
+
+
+def marks_all_slots(design):
+    """With give K free and reuse any: readers mark each slot into which a kind puts, or none."""
+    marked = {text.split(" ")[2] for reader in design.readers for text in reader.texts
+              if text.startswith("mark")}
+    put = {text.split(" ")[1] for kind in design.kinds for text in kind.texts
+           if text.startswith("put")}
+    return not marked or put <= marked
+
+
+def is_within_limits(design):
+    texts = [text for kind in design.kinds for text in kind.texts]
+    frees = any(text.endswith("free") for text in texts)
+    if frees and "try" in texts:
+        return False
+    if not all(enters_before_checks(reader) and marks_well(reader) for reader in design.readers):
+        return False
+    return not frees or design.reuse == "never" or marks_all_slots(design)
+
+
+def random_design(rng, most_steps=6, reader_steps=7, flavour=None):
+    while True:
+        taste = flavour or rng.choice(sorted(KIND_WORDS))
+        slots = ["s", "t"][:rng.choice([1, 1, 2])]
+        parts = ["p", "q"][:rng.choice([1, 1, 2])]
+        counters = ["c"] if taste in ("numbers", "mixed") else []
+        kinds = []
+        for at in range(rng.choice([1, 1, 2])):
+            make = rng.choice([random_kind, swapping_kind, swapping_kind])
+            kinds.append(make(rng, "kl"[at], slots, parts, counters, KIND_WORDS[taste],
+                              most_steps))
+        readers = [random_reader(rng, "rno"[at], slots, parts, counters, READER_WORDS[taste],
+                                 reader_steps) for at in range(rng.choice([1, 2]))]
+        rounds = [(counter, rng.choice([None, 2, 3, 4])) for counter in counters]
+        wide = [(slots[0], rng.choice([2, 3, 4]))] if rng.random() < 0.3 else []
+        rooms = (rng.choice([0, 0, 1]), rng.choice([0, 0, 1]))
+        design = Design(slots, parts, kinds, readers, rounds, wide, rooms,
+                        rng.choice(["any", "any", "never"]))
+        if is_within_limits(design):
+            return design

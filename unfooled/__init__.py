@@ -1,0 +1,1 @@
+"""Unfooled: readers without locks over cells that are replaced, given back and taken anew."""
