@@ -14,6 +14,7 @@ from unfooled.telling import history_of
 from unfooled.watched import beginning, led_on
 
 HARMS = ("back", "early", "fooled", "torn", "used")
+TAILS = (["try", "give 1"], ["try", "give 2"], ["try", "wait"], ["try", "move"], ["wait", "try"])
 SWAP = "swap: take, write p, put s, aside, give 0"
 
 
@@ -63,7 +64,7 @@ def helped_design(rng, is_free):
     """Updates that give back with free, or that try, beside readers who can help."""
     slots = ["s", "t"]
     kinds = [Kind(name, ["take", "write p", "put " + slot, "aside"]
-                  + (["give 0 free"] if is_free else ["try", f"give {rng.choice([1, 2])}"]))
+                  + (["give 0 free"] if is_free else rng.choice(TAILS)))
              for name, slot in (("k", "s"), ("l", "t"))]
     readers = [random_reader(rng, "r", slots, ["p"], [],
                              ["read", "use", "use", "look", "enter", "leave"], 5)]
@@ -207,13 +208,23 @@ class Faults(unittest.TestCase):
             standing, way = beginning(design, "r"), []
             for _ in range(40):
                 rows = [row for row in led_on(design, "r", standing) if row[1] is not None]
+                if not rows:
+                    break
                 helped = [row for row in rows if row[0][0] in ("kept", "spared")]
-                row = rng.choice(helped or rows)
+                steps = [row for row in rows if row[0] == ("update", "step")]
+                row = rng.choice(helped or rng.choice([rows, steps or rows]))
                 special += row in helped
                 way.append((standing, row[0]))
                 standing = row[1]
             play(design, history_of(design, [("r", way)]))
-        self.assertGreater(special, 40)
+        self.assertGreater(special, 100)
+
+    def test_no_needless_helpers(self):
+        design = home(["k: take, write p, put s, aside, try, give 1"],
+                      ["r once: read s, use s p", "o once: enter, leave"])
+        for harm in ("early", "used"):
+            events = story(design, "r", harm)
+            self.assertEqual([event for event in events if event.startswith("start")], ["start r"])
 
     def test_no_harm_is_left_out(self):
         found = set()

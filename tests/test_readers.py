@@ -94,6 +94,9 @@ class Readers(unittest.TestCase):
         for at in (0, 2):
             error = raised(reader.without, at)
             self.assertEqual((error.__class__, error.word), (InvalidReader, "texts"))
+        three = Reader("r", ["num c", "num c", "num c", "same 0 2"])
+        self.assertEqual(three.without(1).texts, ("num c", "num c", "same 0 1"))
+        self.assertEqual(raised(three.without, 2).word, "texts")
         self.assertEqual(raised(Reader("r", ["read s", "use s p"]).without, 0).word, "texts")
         self.assertEqual(raised(Reader("r", ["enter"]).without, 0).word, "texts")
         self.assertEqual(raised(reader.with_more, 0, "same 0 2").word, "texts")

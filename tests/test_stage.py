@@ -65,6 +65,13 @@ class Updates(unittest.TestCase):
         self.assertEqual(play(design, begin("k", 2) * 2 + begin("a", 1)).pile, ((0, 0), (1, 0)))
         self.assertEqual(play(design, begin("k", 2) * 2 + begin("a", 2)).back, (0, 1))
 
+    def test_lots_ascend(self):
+        design = home(["k: take, put t, take, put s", "a: aside", "g: give 0"], ["r once: enter"],
+                      slots="s t")
+        self.assertEqual(play(design, begin("k", 4)).out, (0, 1))
+        self.assertEqual(play(design, begin("k", 4) + begin("a", 1)).pile, ((0, 0), (1, 0)))
+        self.assertEqual(play(design, begin("k", 4) + begin("a", 1) + begin("g", 1)).back, (0, 1))
+
     def test_cells_that_come_back(self):
         design = home(["k: take, put s, aside, give 0"], ["r once: read s"])
         seen = play(design, begin("k", 4) + ["begin k", "step 0"])

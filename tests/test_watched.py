@@ -131,6 +131,21 @@ class Beginnings(unittest.TestCase):
                            rooms="2 0", rounds="c 3"), "m", [own, own, own, ("own", "drain")])
         self.assertEqual(row[1][4], ("none", (("mark", "h", "none"),), (("h", 0),)))
 
+    def test_one_content_of_one_update(self):
+        design = home(["k: over s p, take, put s, aside, give 0, take, write p, write p, put s"],
+                      ["r once: read s, use s p, use s p"], rooms="0 1")
+        step, own, flush = ("update", "step"), ("own", "next"), ("update", "flush")
+        labels = [("update", "begin k"), step, flush, step, step, step, step, ("update", "back", 0),
+                  own, flush, step, flush, own]
+        row = self.go(design, "r", labels)
+        self.assertEqual(row[1][0][:4], ("k", 7, 0, ("p",)))
+        self.assertEqual(row[1][5][1], (("s", 0, "living", 0, ("p",)),))
+        row = self.go(design, "r", labels + [step, flush])
+        self.assertEqual(row[1][5][1], (("s", 0, "living", 0, ("p",)),))
+        self.assertEqual(self.go(design, "r", labels + [step, flush, own])[2], ("early",))
+        row = self.go(design, "r", labels[:-3] + [own, step, flush])
+        self.assertEqual(row[1][5][1], (("s", 0, "living", 0, ()),))
+
     def test_tries_and_waits(self):
         design = home(["k: aside, try", "w: wait"], ["r once: enter, read s, use s p, leave"])
         step, own = ("update", "step"), ("own", "next")
@@ -169,6 +184,13 @@ class Beginnings(unittest.TestCase):
                    reuse="never")
         rows = led_on(one, "r", self.go(one, "r", labels)[1])
         self.assertEqual([row[0] for row in rows], [own, step, ("spared", (0,))])
+        leaving = home(["k: take, put s, aside, give 0 free"], ["r once: read t", "m once: read s, mark h s"],
+                       rooms="0 1", slots="s t")
+        labels = [("update", "begin k"), step, step, step]
+        rows = led_on(leaving, "r", self.go(leaving, "r", labels)[1])
+        self.assertEqual([row[0] for row in rows], [own, ("update", "flush"), step, ("spared", (0,))])
+        rows = led_on(leaving, "r", self.go(leaving, "r", labels + [("update", "flush")])[1])
+        self.assertEqual([row[0] for row in rows], [own, step])
         bare = home(["k: take, put s, aside, give 0 free"], ["r once: read s, use s p"])
         rows = led_on(bare, "r", self.go(bare, "r", [own, ("update", "begin k")] + [step] * 3)[1])
         self.assertEqual([row[0] for row in rows], [own, step])
@@ -185,6 +207,20 @@ class Ways(unittest.TestCase):
         self.assertIn("back", met)
         self.assertIn("flush", met)
 
+    def test_cells_that_are_leaving(self):
+        """Cells that come back while memory still has them."""
+        met = set()
+        for kind in ("k: over s p, take, put s, aside, give 0, take, write p, write p, put s",
+                     "k: take, write p, put s, aside, give 0, take, over s p, put t",
+                     "k: take, put s, aside, give 0, over s p, take, over s p, write p, put s"):
+            for reader in ("r again: read s, use s p, use s p, look s, use s p",
+                           "r again: read s, read t, use s p, use t p, use s p",
+                           "r again: read t, use t p, read s, look s, use s p"):
+                design = home([kind], [reader], slots="s t", rooms="0 1")
+                for seed in range(40):
+                    self.go_along(random.Random(seed), design, 0, met, 0.9)
+        self.assertIn("back", met)
+
     def test_beside_others(self):
         met = set()
         for flavour in sorted(KIND_WORDS):
@@ -194,14 +230,14 @@ class Ways(unittest.TestCase):
                 self.go_along(rng, design, rng.choice([1, 2, 3]), met)
         self.assertIn("kept", met)
 
-    def go_along(self, rng, design, others, met):
+    def go_along(self, rng, design, others, met, idle=0):
         name = rng.choice(design.readers).name
         scene = Scene(design)
         scene.do(event_words(design, "start " + name))
         watch = Watch(scene, 0)
         standing = beginning(design, name)
         self.assertEqual(watch.standing(), standing)
-        lazy = rng.choice([0.3, 0.6, 0.8])
+        lazy = idle or rng.choice([0.3, 0.6, 0.8])
         for _ in range(50):
             texts = candidates(scene, others)
             rows = led_on(design, name, standing)

@@ -23,7 +23,7 @@ class Frontier:
         heappush(self.queue, (cost, len(self.nodes)))
         self.nodes.append(node)
 
-    def take(self):
+    def nearest(self):
         """The next node, or None."""
         while self.queue != []:
             _, number = heappop(self.queue)

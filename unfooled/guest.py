@@ -13,9 +13,9 @@ class Guest:
         self.shown = None
         self.marks = {}
         self.buffer = []
-        self.begin(0)
+        self.begin_try(0)
 
-    def begin(self, runs):
+    def begin_try(self, runs):
         """Forget what was read; `runs` is how many runs are over ahead of the first step."""
         self.done = 0
         self.ahead = runs
@@ -33,7 +33,7 @@ class Guest:
             return self.room == 0 or len(self.buffer) < self.room
         return word != "fence" or self.buffer == []
 
-    def store(self, words, house):
+    def tell(self, words, house):
         """Show something, at once or later; whether an age was told anew by it."""
         if words[0] in ("enter", "leave"):
             told = ("age", house.age if words[0] == "enter" else None)

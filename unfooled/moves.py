@@ -27,12 +27,10 @@ def own_moves(plan, standing):
     return found
 
 
-def step_move(plan, standing, label, cell, is_kept, spared):
-    """The move by which the update does its next step."""
-    sight = Sight(plan, standing)
-    step(plan, sight, cell, is_kept, spared)
+def update_behind(plan, sight):
+    """The standing behind something that an update did, and the words for it."""
     words = end_if_done(plan, sight)
-    return label, sight.fold(plan), (), words
+    return sight.fold(plan), words
 
 
 def begin_moves(plan, standing):
@@ -45,39 +43,49 @@ def begin_moves(plan, standing):
 
 
 def flush_moves(plan, standing):
-    sight = Sight(plan, standing)
-    if sight.buffer == []:
+    if standing[0][4] == ():
         return []
+    sight = Sight(plan, standing)
     flush(plan, sight)
-    words = end_if_done(plan, sight)
-    return [(("update", "flush"), sight.fold(plan), (), words)]
+    behind, words = update_behind(plan, sight)
+    return [(("update", "flush"), behind, (), words)]
 
 
 def spared_lots(plan, sight, words):
     """The lots of held cells that others can spare at a step give, but the empty one."""
-    cells = sorted([cell for cell in given(sight, words)
-                    if cell in sight.held(plan) and can_be_spared(plan, sight, cell)])
+    cells = sorted([cell for cell in given(sight, words) if can_be_spared(plan, sight, cell)])
     return [lot for many in range(1, len(cells) + 1) for lot in combinations(cells, many)]
+
+
+def step_labels(plan, sight, words):
+    """The labels for the update's next step, if it is possible."""
+    if words is None or not may_step(plan, sight, words):
+        return []
+    found = []
+    if words[0] == "take" and plan.is_any:
+        cells = [cell for cell in sight.held(plan) if sight.places[cell] == "back"]
+        found = [("update", "back", cell) for cell in cells]
+    found.append(("update", "step"))
+    if words[0] == "try" and sight.elder and sight.shown != "past":
+        found.append(("kept",))
+    if words[0] == "give" and len(words) == 3:
+        found = [*found, *[("spared", lot) for lot in spared_lots(plan, sight, words)]]
+    return found
 
 
 def step_moves(plan, standing):
     """The moves by the next step of the update in progress."""
     sight = Sight(plan, standing)
     words = next_words(plan, sight)
-    if words is None or not may_step(plan, sight, words):
-        return []
     found = []
-    if words[0] == "take" and plan.is_any:
-        for cell in sight.held(plan):
-            if sight.places[cell] == "back":
-                label = ("update", "back", cell)
-                found.append(step_move(plan, standing, label, cell, False, ()))
-    found.append(step_move(plan, standing, ("update", "step"), None, False, ()))
-    if words[0] == "try" and sight.elder and sight.shown != "past":
-        found.append(step_move(plan, standing, ("kept",), None, True, ()))
-    if words[0] == "give" and len(words) == 3:
-        for lot in spared_lots(plan, sight, words):
-            found.append(step_move(plan, standing, ("spared", lot), None, False, lot))
+    for label in step_labels(plan, sight, words):
+        if found != []:
+            sight = Sight(plan, standing)
+        cell = label[2] if label[:2] == ("update", "back") else None
+        spared = label[1] if label[0] == "spared" else ()
+        step(plan, sight, cell, label[0] == "kept", spared)
+        behind, told = update_behind(plan, sight)
+        found.append((label, behind, (), told))
     return found
 
 

@@ -41,7 +41,7 @@ def road_to(plan, reader, harm):
     """A least road: (updates that begin, legs), each leg (name, pairs (standing, label))."""
     frontier = Frontier()
     frontier.offer(first_standing(plan), NOTHING, (None, None))
-    standing = frontier.take()
+    standing = frontier.nearest()
     while standing is not None:
         cost = frontier.costs[standing]
         for label, behind, harms, _ in moves(plan, standing):
@@ -50,7 +50,7 @@ def road_to(plan, reader, harm):
                 return cost[0], [(reader.name, [*way, (standing, label)])]
             if behind is not None:
                 frontier.offer(behind, cost_behind(cost, label), (standing, label))
-        standing = frontier.take()
+        standing = frontier.nearest()
     return None
 
 
@@ -83,7 +83,7 @@ def only_tracked(plan, lot):
 def offer_seats(later, plan, frontier, seats, number):
     """Go all ways of a first run; offer the seats of those who come as it was early."""
     frontier.offer(first_standing(plan), NOTHING, (None, None))
-    standing = frontier.take()
+    standing = frontier.nearest()
     while standing is not None:
         cost = frontier.costs[standing]
         for label, behind, harms, _ in moves(plan, standing):
@@ -93,7 +93,7 @@ def offer_seats(later, plan, frontier, seats, number):
                 seats.offer((seat, False), cost_behind(cost, label), (None, start))
             if behind is not None:
                 frontier.offer(behind, cost_behind(cost, label), (standing, label))
-        standing = frontier.take()
+        standing = frontier.nearest()
 
 
 def goes_back(plan, standing, is_after):
@@ -135,7 +135,7 @@ def road_back(design, reader, firsts):
     for number, first in enumerate(firsts):
         plan = Plan(design, first, later.pairs)
         offer_seats(later, plan, frontiers[number], seats, number)
-    node = seats.take()
+    node = seats.nearest()
     while node is not None:
         cost = seats.costs[node]
         for move in moves(later, node[0]):
@@ -145,7 +145,7 @@ def road_back(design, reader, firsts):
             behind = node_behind(later, node, move)
             if behind is not None:
                 seats.offer(behind, cost_behind(cost, move[0]), (node, move[0]))
-        node = seats.take()
+        node = seats.nearest()
     return None
 
 

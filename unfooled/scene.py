@@ -109,11 +109,11 @@ class Scene:
         """The next step of a reader; the harms that it meets."""
         guest = self.guests[number]
         if guest.done == 0:
-            guest.begin(len(self.runs))
+            guest.begin_try(len(self.runs))
         words = guest.words()
         says, harms = True, []
         if words[0] in STORES:
-            if guest.store(words, self.house):
+            if guest.tell(words, self.house):
                 self.free_keeper(number)
         else:
             says, harms = guest.look_around(words, self.house)
@@ -128,14 +128,14 @@ class Scene:
         guest = self.guests[number]
         if guest.script.word == "once":
             self.runs.append((number, "rejected", tuple(guest.used), None))
-        guest.begin(len(self.runs))
+        guest.begin_try(len(self.runs))
 
     def accept(self, number):
         guest = self.guests[number]
         used = tuple(guest.used)
         ahead = guest.ahead
         was_spoilt = guest.is_spoilt
-        guest.begin(len(self.runs))
+        guest.begin_try(len(self.runs))
         if was_spoilt:
             self.runs.append((number, "spoilt", used, None))
             return []

@@ -72,16 +72,22 @@ class Sight:
         going = (self.going, self.done, names.get(self.hand, "new"), self.written,
                  self.fold_buffer(names), self.barred, self.elder)
         slots = tuple([(names.get(self.hung[slot], "new"), self.lots[slot]) for slot in plan.slots])
+        reads = tuple([(slot, names[self.reads[slot][0]], *self.reads[slot][1:])
+                       for slot in plan.slots if slot in self.reads])
+        looks = () if self.looks == {} else tuple([(at, *self.looks[at]) for at in sorted(self.looks)])
+        answers = () if self.answers == {} else tuple(sorted(self.answers.items()))
+        touched = () if self.touched == {} else tuple(sorted(self.touched))
+        return (going, tuple([self.places[cell] for cell in held]), slots, tuple(self.counts),
+                self.fold_seen(names),
+                (self.at, reads, looks, answers, self.past, self.word, touched))
+
+    def fold_seen(self, names):
+        if self.stores == [] and self.marks == {}:
+            return self.shown, (), ()
         stores = tuple([("mark", store[1], names[store[2]]) if store[0] == "mark" else store
                         for store in self.stores])
         marks = tuple([(mark, names[self.marks[mark]]) for mark in sorted(self.marks)])
-        reads = tuple([(slot, names[self.reads[slot][0]], *self.reads[slot][1:])
-                       for slot in plan.slots if slot in self.reads])
-        looks = tuple([(at, *self.looks[at]) for at in sorted(self.looks)])
-        answers = tuple([(at, self.answers[at]) for at in sorted(self.answers)])
-        run = (self.at, reads, looks, answers, self.past, self.word, tuple(sorted(self.touched)))
-        return (going, tuple([self.places[cell] for cell in held]), slots, tuple(self.counts),
-                (self.shown, stores, marks), run)
+        return self.shown, stores, marks
 
     def fold_buffer(self, names):
         if self.buffer == []:

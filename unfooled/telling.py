@@ -104,7 +104,7 @@ class Teller:
         else:
             self.do(f"next {number}")
 
-    def drain(self, number):
+    def drain_all(self, number):
         while self.scene.guests[number].buffer != []:
             self.do(f"drain {number}")
 
@@ -112,9 +112,11 @@ class Teller:
         """Start a helper, and let it come up to its step enter, or mark (enter is done)."""
         reader = self.helping_reader(word, slot)
         number = self.start(reader.name)
-        while not self.is_ahead_of(number, word, slot):
+        for _ in range(ENOUGH):
+            if self.is_ahead_of(number, word, slot):
+                break
             self.advance(number)
-        self.drain(number)
+        self.drain_all(number)
         if word == "enter":
             self.do(f"next {number}")
         self.helpers[at].append(number)
@@ -134,7 +136,7 @@ class Teller:
         for number in self.helpers[at]:
             if label[0] == "spared":
                 self.do(f"next {number}")
-            self.drain(number)
+            self.drain_all(number)
 
     def others(self):
         return [number for number in range(len(self.scene.guests)) if number != self.watched]
@@ -164,7 +166,7 @@ class Teller:
                     break
                 self.advance(number)
 
-    def held(self):
+    def held_cells(self):
         """The cells that the watched reader holds, in the order of standings."""
         guest = self.scene.guests[self.watched]
         cells = [guest.cells[slot][0] for slot in sorted(guest.cells)]
@@ -179,10 +181,10 @@ class Teller:
         if label[0] == "own":
             return f"{label[1]} {self.watched}"
         if label[:2] == ("update", "back"):
-            return f"step {self.held()[label[2]]}"
+            return f"step {self.held_cells()[label[2]]}"
         return label[1] if label[0] == "update" else "step"
 
-    def tell(self):
+    def tell_all(self):
         """The events by which the road is gone."""
         self.want_helpers()
         leg = -1
@@ -197,11 +199,11 @@ class Teller:
                 self.let_age()
             if label == ("update", "step") and next_step(self.design, standing) == ["wait"]:
                 self.let_wait()
-            held = self.held()
+            held = self.held_cells()
             self.let_give([held[cell] for cell in given_back(self.design, standing, label)])
             self.do(self.event(label))
         return tuple(self.told)
 
 
 def history_of(design, legs):
-    return Teller(design, legs).tell()
+    return Teller(design, legs).tell_all()
