@@ -6,6 +6,7 @@ from unfooled.designs import Design
 from unfooled.errors import LookError
 from unfooled.kinds import Kind
 from unfooled.readers import Reader
+from unfooled.scene import Scene, event_words
 
 
 def random_kind(rng, name, slots, parts, counters, words, most):
@@ -159,3 +160,59 @@ def random_design(rng, most_steps=6, reader_steps=7, flavour=None):
                         rng.choice(["any", "any", "never"]))
         if is_within_limits(design):
             return design
+
+
+def random_events(rng, design, many=50, readers=4):
+    """A random history of so many tries, and the scene behind it."""
+    scene, events, lazy = Scene(design), [], rng.uniform(0.2, 0.8)
+    for _ in range(many):
+        updates = ["step", "step", "flush"] + ["begin " + kind.name for kind in design.kinds]
+        updates += [f"step {cell}" for cell in scene.house.back] * 2
+        others = [f"{word} {at}" for at in range(len(scene.guests)) for word in ("next", "drain")]
+        if len(scene.guests) < readers:
+            others += ["start " + reader.name for reader in design.readers]
+        pool = updates if rng.random() < lazy else others
+        pool = [text for text in pool if scene.may(event_words(design, text))]
+        if pool:
+            events.append(rng.choice(pool))
+            scene.do(event_words(design, events[-1]))
+    return events, scene
+
+
+TURN_WORDS = {
+    "plain": (["put", "aside", "give", "take", "bump", "bump", "bump"],
+              ["read", "num", "num", "same", "even", "look"]),
+    "ages": (["put", "aside", "give", "take", "bump", "bump", "move", "wait"],
+             ["read", "num", "num", "same", "even", "look", "enter", "leave"]),
+    "marks": (["put", "aside", "givefree", "take", "bump", "move", "wait"],
+              ["read", "num", "num", "same", "mark", "look", "clear"]),
+}
+
+
+def asks_for_turns(reader):
+    words = [text.split(" ")[0] for text in reader.texts]
+    if "same" not in words and "look" not in words:
+        return False
+    return words.count("mark") <= 2 and ("mark" not in words or words.count("read") == 1)
+
+
+def turn_design(rng):
+    """A design of which numbers of turns can be asked."""
+    while True:
+        slots = ["s", "t"][:rng.choice([1, 1, 2])]
+        counters = ["c", "d"][:rng.choice([1, 1, 2])]
+        words, reader_words = TURN_WORDS[rng.choice(sorted(TURN_WORDS))]
+        kinds = [rng.choice([random_kind, swapping_kind])(rng, name, slots, ["p"], counters, words, 6)
+                 for name in "kl"[:rng.choice([1, 1, 2])]]
+        reader = random_reader(rng, "r", slots, ["p"], counters, reader_words, 8)
+        if asks_for_turns(reader) and not any("try" in kind.texts for kind in kinds):
+            rounds = [(counter, rng.choice([None, 2, 3, 4, 5])) for counter in counters]
+            wide = [(slots[0], rng.choice([2, 3, 4]))] if rng.random() < 0.3 else []
+            return Design(slots, ["p"], kinds, [reader], rounds, wide, (0, 0),
+                          rng.choice(["any", "any", "never"]))
+
+
+def checks_of(reader):
+    """The numbers of a reader's checks `same` and `look`, with the words."""
+    return [(at, text.split(" ")[0]) for at, text in enumerate(reader.texts)
+            if text.split(" ")[0] in ("same", "look")]

@@ -1,6 +1,6 @@
 """One reader on the stage: what it shows, what lies in its buffer, and its run."""
 
-from unfooled.readers import COMPARING, STORES
+from unfooled.readers import COMPARING, STORES, TELLING
 
 
 class Guest:
@@ -19,6 +19,8 @@ class Guest:
         """Forget what was read; `runs` is how many runs are over ahead of the first step."""
         self.done = 0
         self.ahead = runs
+        # How many updates were over at the last telling step, None ahead of the first one.
+        self.over = None
         self.cells = {}
         self.counted = {}
         self.used = []
@@ -58,6 +60,8 @@ class Guest:
 
     def look_around(self, words, house):
         """Do a step that is no store: what a check says (True for others), and the harms."""
+        if words[0] in TELLING:
+            self.over = house.number_over()
         if words[0] == "read":
             cell = house.hung[words[1]]
             self.cells[words[1]] = (cell, house.stamps.get(words[1], 0), house.lives[cell])

@@ -147,6 +147,14 @@ class House:
             self.done = 0
             self.moments.append(self.view())
 
+    def number_over(self):
+        """How many updates are over."""
+        return len(self.moments) - 1
+
+    def all_moments(self):
+        """The moments so far, and the one of the update in progress."""
+        return list(self.moments) if self.script is None else [*self.moments, self.coming()]
+
     def coming(self):
         """The moment to which the update in progress leads, if it goes on alone.
 

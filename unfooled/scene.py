@@ -42,6 +42,9 @@ class Scene:
         self.house = House(design, design.rooms[1])
         self.guests = []
         self.runs = []
+        # For each run: how many runs were over ahead of its first step, how many updates at its
+        # last step, and at its last telling step (None if there was none).
+        self.spans = []
         self.met = []
         self.many = 0
         # The readers who showed an age as a wait became the next step, and still keep it.
@@ -124,31 +127,31 @@ class Scene:
             harms = harms + self.accept(number)
         return harms
 
+    def end_run(self, guest, run):
+        self.runs.append(run)
+        self.spans.append((guest.ahead, self.house.number_over(), guest.over))
+
     def reject(self, number):
         guest = self.guests[number]
         if guest.script.word == "once":
-            self.runs.append((number, "rejected", tuple(guest.used), None))
+            self.end_run(guest, (number, "rejected", tuple(guest.used), None))
         guest.begin_try(len(self.runs))
 
     def accept(self, number):
         guest = self.guests[number]
         used = tuple(guest.used)
         ahead = guest.ahead
-        was_spoilt = guest.is_spoilt
-        guest.begin_try(len(self.runs))
-        if was_spoilt:
-            self.runs.append((number, "spoilt", used, None))
+        if guest.is_spoilt:
+            self.end_run(guest, (number, "spoilt", used, None))
+            guest.begin_try(len(self.runs))
             return []
-        over = len(self.house.moments)
-        moments = list(self.house.moments)
-        if self.house.script is not None:
-            moments.append(self.house.coming())
-        fits = fitting(used, moments, self.design)
+        fits = fitting(used, self.house.all_moments(), self.design)
         told = (fits[0], fits[-1]) if fits else None
-        self.runs.append((number, "accepted", used, told))
+        self.end_run(guest, (number, "accepted", used, told))
+        guest.begin_try(len(self.runs))
         if told is None:
             return ["torn"]
-        if told[0] == over:
+        if told[0] > self.house.number_over():
             return ["early"]
         goes_back = any([run[3] is not None and run[3][0] > told[1] for run in self.runs[:ahead]])
         return ["back"] if goes_back else []
