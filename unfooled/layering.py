@@ -10,7 +10,7 @@ class Layers:
     def __init__(self, question):
         self.question = question
         self.stands = []
-        self.numbers = {}
+        self.known = {}
         # For each stand the rows of those behind it without a turn, and with one.
         self.plain = []
         self.turned = []
@@ -18,11 +18,11 @@ class Layers:
         self.back = 0
         self.go_round()
 
-    def number(self, stand):
-        if stand not in self.numbers:
-            self.numbers[stand] = len(self.stands)
+    def number_of(self, stand):
+        if stand not in self.known:
+            self.known[stand] = len(self.stands)
             self.stands.append(stand)
-        return self.numbers[stand]
+        return self.known[stand]
 
     def lead_on(self, number):
         """Work out what comes behind a stand, if it is not known yet."""
@@ -31,9 +31,9 @@ class Layers:
             turned = []
             for _, behind, is_turn in stand_moves(self.question, self.stands[len(self.plain)]):
                 if is_turn:
-                    turned.append(self.number(behind))
+                    turned.append(self.number_of(behind))
                 else:
-                    plain.append(self.number(behind))
+                    plain.append(self.number_of(behind))
             self.plain.append(plain)
             self.turned.append(turned)
 
@@ -52,7 +52,7 @@ class Layers:
 
     def go_round(self):
         known = {}
-        lot = self.whole([self.number(stand) for stand in starts_of(self.question)])
+        lot = self.whole([self.number_of(stand) for stand in starts_of(self.question)])
         while lot not in known:
             known[lot] = len(self.lots)
             self.lots.append(lot)

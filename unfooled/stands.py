@@ -32,7 +32,7 @@ class Question:
         sizes = dict(design.rounds)
         self.sizes = [sizes[self.steps[check[1]][1]] for check in self.checks]
 
-    def rounds(self):
+    def sizes_ahead(self):
         """For each check ahead by how much its tally comes round."""
         return [(1 if check[0] == "same" else 2) if size is None else size
                 for check, size in zip(self.checks, self.sizes)]
