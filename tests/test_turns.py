@@ -2,83 +2,15 @@ import random
 import unittest
 
 from tests.making import checks_of, turn_design
+from tests.trial import Trial
 from tests.values import any_values, home, raised
 from unfooled.errors import NoName, NoStep
-from unfooled.scene import Scene, event_words
 from unfooled.turns import greatest_in, is_in, numbers_told, puts_amid, turns_amid
 
 
 def amid(design, name, at):
     word = design.reader(name).texts[at].split(" ")[0]
     return (turns_amid if word == "same" else puts_amid)(design, name, at)
-
-
-class Trial:
-    """One reader on the stage up to a check; other looks are taken to say yes."""
-
-    def __init__(self, design, at):
-        self.design, self.at = design, at
-        self.reader = design.readers[0]
-        self.steps = [text.split(" ") for text in self.reader.texts]
-        words = self.steps[at]
-        self.is_look = words[0] == "look"
-        self.first = self.steps.index(["read", words[1]]) if self.is_look else int(words[1])
-        self.last = at if self.is_look else int(words[2])
-        self.turning = "put " + words[1] if self.is_look else "bump " + self.steps[self.first][1]
-
-    def events(self, scene):
-        """What can come next, the reader's checks `look` aside."""
-        texts = ["step", "step"] + ["begin " + kind.name for kind in self.design.kinds]
-        texts += [f"step {cell}" for cell in scene.house.back] * 2
-        texts = [text for text in texts if scene.may(event_words(self.design, text))]
-        guest = scene.guests[0]
-        if guest.done < self.at and self.says_yes(scene):
-            texts += ["next 0"] * 2
-        return texts
-
-    def says_yes(self, scene):
-        guest = scene.guests[0]
-        words = self.steps[guest.done]
-        if words[0] not in ("even", "same"):
-            return True
-        return guest.compare([int(word) for word in words[1:]], scene.house)[0]
-
-    def do(self, scene, text, turns):
-        """Do an event; how many turns there were then."""
-        guest, house = scene.guests[0], scene.house
-        step = house.script.texts[house.done] if text.startswith("step") else ""
-        if step == self.turning and self.first < guest.done <= self.last:
-            turns += 1
-        if text == "next 0" and self.steps[guest.done][0] == "look":
-            guest.done += 1
-        else:
-            scene.do(event_words(self.design, text))
-        return turns
-
-    def comes_now(self, scene):
-        guest, house = scene.guests[0], scene.house
-        if guest.done != self.at:
-            return False
-        if not self.is_look:
-            return True
-        cell, _, life = guest.cells[self.steps[self.at][1]]
-        return house.hung[self.steps[self.at][1]] == cell and house.lives[cell] != life
-
-    def walk(self, rng, many):
-        scene, turns, found = Scene(self.design), 0, set()
-        scene.do(event_words(self.design, "start " + self.reader.name))
-        lazy = rng.choice([0.05, 0.1, 0.2, 0.4, 0.7])
-        for _ in range(many):
-            texts = self.events(scene)
-            if not texts:
-                break
-            own = [text for text in texts if text == "next 0"]
-            others = [text for text in texts if text != "next 0"]
-            pool = own if own and rng.random() < lazy else others or own
-            turns = self.do(scene, rng.choice(pool), turns)
-            if self.comes_now(scene):
-                found.add(turns)
-        return found
 
 
 class Turns(unittest.TestCase):

@@ -32,11 +32,6 @@ class Question:
         sizes = dict(design.rounds)
         self.sizes = [sizes[self.steps[check[1]][1]] for check in self.checks]
 
-    def sizes_ahead(self):
-        """For each check ahead by how much its tally comes round."""
-        return [(1 if check[0] == "same" else 2) if size is None else size
-                for check, size in zip(self.checks, self.sizes)]
-
     def is_counted(self, at, words):
         """Whether a step of an update, when the reader has done so many steps, is a turn."""
         return words == self.turning and self.first < at <= self.last
@@ -79,8 +74,9 @@ def may_see(question, at, tallies):
     return True
 
 
-def cell_behind(question, words, cell, marks):
-    """Where the watched cell is behind a step of an update (another cell being taken)."""
+def cell_behind(oldest, words, cell, marks):
+    """Where a watched cell is behind a step of an update (another cell being taken), if these
+    marks tell it; `oldest` is the greatest number of ages that is told."""
     if words[0] == "put":
         if cell == ("hand",):
             return ("hung", words[1], True)
@@ -90,7 +86,7 @@ def cell_behind(question, words, cell, marks):
     if cell[0] != "aside":
         return cell
     if words[0] in ("move", "try"):
-        return ("aside", min(cell[1] + 1, question.oldest))
+        return ("aside", min(cell[1] + 1, oldest))
     if words[0] == "give" and cell[1] >= words[1] and (len(words) == 2 or marks == ()):
         return ("back",)
     return cell
@@ -138,7 +134,7 @@ def update_moves(question, stand):
     if words[0] == "wait" and barred or words[0] == "move" and shown == "past":
         return []
     if words[0] != "try" or shown != "past":
-        cell = cell_behind(question, words, cell, marks)
+        cell = cell_behind(question.oldest, words, cell, marks)
     if words[0] in ("move", "try") and shown == "now":
         shown = "past"
     if words[0] == "bump":

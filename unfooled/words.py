@@ -74,3 +74,9 @@ def with_text(texts, at, text):
 
 def without_text(texts, at):
     return [*texts[:at], *texts[at + 1:]]
+
+
+def is_lot_of_numbers(value, many):
+    """Whether a value is an ascending tuple of different numbers below this one."""
+    return (isinstance(value, tuple) and all([is_number_below(number, many) for number in value])
+            and list(value) == sorted(set(value)))
