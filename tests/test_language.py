@@ -20,7 +20,7 @@ BARRED_ATTRIBUTES = set("items keys values pop update append clear extend insert
                         "open input".split())
 BARRED_WORDS = ("typing|enum|Enum|Flag|Generic|Protocol|ABC|namedtuple|NamedTuple|TypedDict|dataclass|"
                 "overload|contextmanager|type|_wall|register|mro|elements|eval|exec|globals|vars")
-LIBRARY = {("heapq", "heappush"), ("heapq", "heappop"), ("itertools", "combinations")}
+LIBRARY = {("heapq", "heappush"), ("heapq", "heappop"), ("itertools", "combinations"), ("math", "gcd")}
 BARRED_NODES = (ast.GeneratorExp, ast.Global, ast.Nonlocal, ast.AsyncFunctionDef, ast.Yield,
                 ast.YieldFrom, ast.NamedExpr, ast.Div, ast.Set, ast.Import, ast.AnnAssign, ast.MatMult,
                 ast.Delete, ast.Await)

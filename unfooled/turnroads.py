@@ -44,7 +44,7 @@ class Stepper:
         self.done = 0
         self.at = 0
 
-    def told(self, event):
+    def on_stage(self, event):
         """The event as the stage knows it."""
         if event == "next":
             if self.question.steps[self.at] == ("read", self.question.slot):
@@ -73,7 +73,7 @@ def road_for(question, name, number):
     if not is_in(numbers_amid(question), number):
         return None
     stepper = Stepper(question)
-    told = [stepper.told(event) for event in way_to(question, number)]
+    told = [stepper.on_stage(event) for event in way_to(question, number)]
     return (f"start {name}", *told, "next 0")
 
 
