@@ -226,6 +226,39 @@ class Faults(unittest.TestCase):
             events = story(design, "r", harm)
             self.assertEqual([event for event in events if event.startswith("start")], ["start r"])
 
+    def by_standings(self, design, name):
+        """The harms but back, each with the least number of updates, by all that led_on tells."""
+        levels, known, found, begun = [[beginning(design, name)]], set(), {}, 0
+        while levels[0]:
+            rows, after = levels[0], []
+            for standing in rows:
+                if standing in known:
+                    continue
+                known.add(standing)
+                for label, behind, harms, _ in led_on(design, name, standing):
+                    for harm in harms:
+                        found.setdefault(harm, begun)
+                    if behind is not None and behind not in known:
+                        (after if label[1:] and str(label[1]).startswith("begin ") else rows).append(behind)
+            levels, begun = [after], begun + 1
+        return found
+
+    def test_all_that_standings_meet(self):
+        found = set()
+        for seed in range(150):
+            rng = random.Random(seed)
+            design = overs_design(rng) if seed % 5 == 0 else random_design(rng, reader_steps=6)
+            for reader in design.readers:
+                told = self.by_standings(design, reader.name)
+                found.update(told)
+                for harm in HARMS[1:]:
+                    # The same, whatever was asked before.
+                    fresh = Design.read(str(design))
+                    self.assertEqual(fewest(fresh, reader.name, harm), told.get(harm), (seed, harm))
+                    self.assertEqual(fewest(design, reader.name, harm), told.get(harm))
+                self.assertEqual(sorted(told), [harm for harm in faults_of(design, reader.name) if harm != "back"])
+        self.assertEqual(found, set(HARMS[1:]))
+
     def test_no_harm_is_left_out(self):
         found = set()
         for seed in range(120):

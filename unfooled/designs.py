@@ -3,6 +3,7 @@
 from unfooled.designtexts import REUSES, design_words
 from unfooled.errors import InvalidDesign, NoName
 from unfooled.kinds import Kind
+from unfooled.memory import Memory
 from unfooled.readers import Reader
 from unfooled.words import is_integer, is_name, is_number, is_row_of, is_sequence
 
@@ -124,6 +125,8 @@ class Design:
         self.rooms = rooms
         self.reuse = reuse
         self.counters = tuple([name for name, _ in self.rounds])
+        # What was worked out: it tells nothing that the design itself does not tell.
+        self.memory = Memory()
 
     @staticmethod
     def read(text):

@@ -1,25 +1,49 @@
 """Which harms can be met, by which histories, and by how few updates."""
 
+from unfooled.backs import early_seats, road_back
 from unfooled.errors import InvalidHarm
-from unfooled.plan import Plan
-from unfooled.roads import harms_met, road_back, road_to, users
+from unfooled.roads import Roads
 from unfooled.telling import history_of
 
 HARMS = ("back", "early", "fooled", "torn", "used")
 
 
-def harms_but_back(design, reader):
-    return harms_met(Plan(design, reader, ()))
+def roads_of(design, reader):
+    """The roads to the harms of a reader, but back."""
+    roads = design.memory.roads
+    if reader.name not in roads:
+        roads[reader.name] = Roads(design, reader)
+    return roads[reader.name]
+
+
+def seats_of(design):
+    """For each reader who can be early the seats of those who come then."""
+    seats = design.memory.seats
+    for reader in design.readers:
+        if reader.name not in seats and roads_of(design, reader).road_to("early") is not None:
+            seats[reader.name] = early_seats(design, reader)
+    return seats
+
+
+def way_back(design, reader):
+    """A least road to the harm back, or None."""
+    ways = design.memory.ways_back
+    if reader.name not in ways:
+        # Who uses nothing fits to all moments; who is never early never leads others back.
+        ways[reader.name] = None if reader.parts == () else road_back(design, reader, seats_of(design))
+    return ways[reader.name]
+
+
+def road_for(design, reader, harm):
+    """A least road to the harm: (updates that begin, legs), or None."""
+    return way_back(design, reader) if harm == "back" else roads_of(design, reader).road_to(harm)
 
 
 def least_road(design, name, harm):
-    """A least road to the harm: (updates that begin, legs), or None."""
     reader = design.reader(name)
     if not isinstance(harm, str) or harm not in HARMS:
         raise InvalidHarm()
-    if harm == "back":
-        return road_back(design, reader, users(design))
-    return road_to(Plan(design, reader, ()), reader, harm)
+    return road_for(design, reader, harm)
 
 
 def happens(design, name, harm):
@@ -28,24 +52,12 @@ def happens(design, name, harm):
 
 def faults_of(design, name):
     reader = design.reader(name)
-    found = harms_but_back(design, reader)
-    return found if road_back(design, reader, users(design)) is None else ("back", *found)
+    return tuple([harm for harm in HARMS if road_for(design, reader, harm) is not None])
 
 
 def faults(design):
-    found = {}
-    early = []
-    for reader in design.readers:
-        harms = harms_but_back(design, reader)
-        if "early" in harms:
-            early.append(reader)
-        for harm in harms:
-            found[harm] = True
-    for reader in design.readers:
-        # Who is never early never leads others back.
-        if road_back(design, reader, early) is not None:
-            found["back"] = True
-    return tuple(sorted(found))
+    return tuple([harm for harm in HARMS
+                  if any([road_for(design, reader, harm) is not None for reader in design.readers])])
 
 
 def story(design, name, harm):

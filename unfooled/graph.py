@@ -1,7 +1,11 @@
 """All standings of one watched reader that come about, and the moves between them."""
 
 from unfooled.moves import moves
-from unfooled.sight import first_standing
+from unfooled.numbering import first_standing
+from unfooled.watched import plan_of
+
+# Greater graphs are worked out anew each time: they would take too much room.
+KEPT = 5000
 
 
 class Graph:
@@ -11,10 +15,17 @@ class Graph:
     def __init__(self, standings, rows):
         self.standings = standings
         self.rows = rows
+        self.by_text = {}
+
+    def all_texts(self):
+        """The texts of all standings: texts of plain values are the same just if the values are
+        alike, a bool and a number, a list and a tuple being unlike."""
+        if self.by_text == {}:
+            self.by_text = {repr(standing): True for standing in self.standings}
+        return self.by_text
 
 
-def graph_without(plan, harm):
-    """The graph of all standings, or None if a move meets the harm."""
+def explored(plan):
     first = first_standing(plan)
     standings = [first]
     numbers = {first: 0}
@@ -22,8 +33,6 @@ def graph_without(plan, harm):
     while len(rows) < len(standings):
         row = []
         for label, behind, harms, words in moves(plan, standings[len(rows)]):
-            if harm in harms:
-                return None
             if behind is not None and behind not in numbers:
                 numbers[behind] = len(standings)
                 standings.append(behind)
@@ -32,6 +41,13 @@ def graph_without(plan, harm):
     return Graph(standings, rows)
 
 
-def graph_of(plan):
-    """The graph of all standings."""
-    return graph_without(plan, "")
+def graph_of(design, name):
+    """The graph of all standings of a reader."""
+    plan = plan_of(design, name)
+    graphs = design.memory.graphs
+    if name in graphs:
+        return graphs[name]
+    graph = explored(plan)
+    if len(graph.standings) <= KEPT:
+        graphs[name] = graph
+    return graph

@@ -2,7 +2,6 @@
 
 from unfooled.frontier import Frontier, cost_behind
 from unfooled.graph import graph_of
-from unfooled.plan import Plan
 from unfooled.readers import TELLING
 from unfooled.rings import longest_way
 from unfooled.telling import history_of
@@ -12,11 +11,10 @@ class Readings:
     """The graph of a watched reader, and which of its moves count for lags."""
 
     def __init__(self, design, reader):
-        plan = Plan(design, reader, ())
-        graph = graph_of(plan)
+        graph = graph_of(design, reader.name)
         self.graph = graph
         # The last step that tells something; none of a try counts behind it.
-        self.last = max([-1, *[at for at, words in enumerate(plan.steps) if words[0] in TELLING]])
+        self.last = max([-1, *[at for at, text in enumerate(reader.texts) if text.split(" ")[0] in TELLING]])
         self.done = [standing[5][0] for standing in graph.standings]
         self.ends = [number for number in range(len(graph.rows))
                      if any([self.is_good_end(number, move) for move in graph.rows[number]])]
@@ -91,17 +89,17 @@ def lag_road(design, name, many):
     readings = Readings(design, reader)
     standings = readings.graph.standings
     frontier = Frontier()
-    frontier.offer((0, 0), (0, 0, 0), (None, None))
+    frontier.offer((0, 0), 0, -1, None)
     node = frontier.nearest()
-    while node is not None:
-        number, so_far = node
+    while node >= 0:
+        number, so_far = frontier.nodes[node]
         for move in readings.graph.rows[number]:
             if so_far >= many and readings.is_good_end(number, move):
                 _, way = frontier.way_to(node)
-                way = [(standings[one], label) for (one, _), label in [*way, (node, move[0])]]
+                way = [(standings[one], label) for (one, _), label in [*way, ((number, so_far), move[0])]]
                 return history_of(design, [(reader.name, way)])
             if move[1] is not None:
                 behind = (move[1], lag_behind(readings, number, move, so_far, many))
-                frontier.offer(behind, cost_behind(frontier.costs[node], move[0]), (node, move[0]))
+                frontier.offer(behind, cost_behind(frontier.costs[node], move[0]), node, move[0])
         node = frontier.nearest()
     return None

@@ -1,34 +1,32 @@
 """Certificates: all standings that come about, if none of them meets a harm."""
 
 from unfooled.errors import InvalidHarm
-from unfooled.graph import graph_of, graph_without
-from unfooled.plan import Plan
+from unfooled.faults import happens
+from unfooled.graph import graph_of
 
 HARMS = ("early", "fooled", "torn", "used")
 
 
-def certificate(design, name, harm):
-    reader = design.reader(name)
+def cannot_happen(design, name, harm):
+    """Whether a harm other than back is not met; the errors for other values."""
+    design.reader(name)
     if not isinstance(harm, str) or harm not in HARMS:
         raise InvalidHarm()
-    graph = graph_without(Plan(design, reader, ()), harm)
-    return None if graph is None else tuple(graph.standings)
+    return not happens(design, name, harm)
 
 
-def texts_of(standings):
-    """Texts by which plain values are the same just if they are alike, bools and numbers, too."""
-    return {repr(standing): True for standing in standings}
+def certificate(design, name, harm):
+    return tuple(graph_of(design, name).standings) if cannot_happen(design, name, harm) else None
 
 
 def certifies(design, name, harm, value):
-    told = certificate(design, name, harm)
-    if told is None or not isinstance(value, tuple):
+    if not cannot_happen(design, name, harm) or not isinstance(value, tuple):
         return False
-    texts = texts_of(told)
-    given = texts_of(value)
+    texts = graph_of(design, name).all_texts()
+    given = {repr(standing): True for standing in value}
     return len(given) == len(texts) and all([text in texts for text in given])
 
 
 def is_standing(design, name, value):
-    graph = graph_of(Plan(design, design.reader(name), ()))
-    return isinstance(value, tuple) and repr(value) in texts_of(graph.standings)
+    texts = graph_of(design, name).all_texts()
+    return isinstance(value, tuple) and repr(value) in texts

@@ -14,21 +14,13 @@ def steps_of(script):
 
 def pairs_used(steps):
     """The lot of the pairs (slot, part) of the steps use."""
-    found = {}
-    for words in steps:
-        if words[0] == "use":
-            found[(words[1], words[2])] = True
-    return tuple(sorted(found))
+    return tuple(sorted(set([words[1:] for words in steps if words[0] == "use"])))
 
 
 def slots_marked(readers):
     """The slots of which some reader has a step mark."""
-    found = {}
-    for reader in readers:
-        for words in steps_of(reader):
-            if words[0] == "mark":
-                found[words[2]] = True
-    return found
+    return {text.split(" ")[2]: True for reader in readers for text in reader.texts
+            if text.startswith("mark ")}
 
 
 def some_enters(readers):
@@ -37,23 +29,28 @@ def some_enters(readers):
 
 def oldest_given(kinds):
     """The greatest number in the steps give."""
-    return max([0, *[words[1] for kind in kinds for words in steps_of(kind) if words[0] == "give"]])
+    return max([0, *[int(text.split(" ")[1]) for kind in kinds for text in kind.texts
+                     if text.startswith("give ")]])
 
 
 def used_by_slot(pairs):
-    """For each slot the lot of the parts that pairs (slot, part) name."""
+    """For each slot the lot of the parts that an ascending row of pairs (slot, part) names."""
     found = {}
-    for slot, part in sorted(set(pairs)):
+    for slot, part in pairs:
         found[slot] = (*found.get(slot, ()), part)
     return found
 
 
 class Plan:
-    """A watched reader, and what is to be told of the house; `more` are further pairs
-    (slot, part) of which is told whether they are touched (for those who come later)."""
+    """A watched reader beside the updates of a design.
 
-    def __init__(self, design, reader, more):
+    `more` are further pairs (slot, part) of which is told whether they are touched (for those who
+    come later); `is_again` is whether the reader begins anew when it is rejected.
+    """
+
+    def __init__(self, design, reader, more, is_again):
         self.slots = design.slots
+        self.places = {slot: at for at, slot in enumerate(design.slots)}
         self.counters = design.counters
         self.sizes = dict(design.rounds)
         self.wide = dict(design.wide)
@@ -61,24 +58,35 @@ class Plan:
         self.has_buffer = design.rooms[1] > 0
         self.room = design.rooms[0]
         self.is_any = design.reuse == "any"
-        self.scripts = {kind.name: steps_of(kind) for kind in design.kinds}
         self.enters = some_enters(design.readers)
         self.marked_slots = slots_marked(design.readers)
         self.oldest = oldest_given(design.kinds)
         self.steps = steps_of(reader)
-        self.is_again = reader.word == "again"
+        self.is_again = is_again
         self.pairs = pairs_used(self.steps)
-        self.touchable = tuple(sorted(set([*more, *(self.pairs if self.is_again else ())])))
-        self.tracked = tuple(sorted(set([part for _, part in [*self.pairs, *more]])))
+        self.touchable = {pair: True for pair in [*more, *(self.pairs if is_again else ())]}
+        self.tracked = {part: True for _, part in [*self.pairs, *more]}
+        self.pairs_in = {slot: [(slot, part) for part in self.tracked] for slot in self.slots}
+        self.read_updates(design.kinds)
         self.look_ahead()
+
+    def read_updates(self, kinds):
+        """The scripts of the kinds; behind its last step a script has an empty one."""
+        self.scripts = {kind.name: (*steps_of(kind), ()) for kind in kinds}
+        self.waits = {name: [words == ("wait",) for words in steps] for name, steps in self.scripts.items()}
+        self.begins = [(name, ("update", f"begin {name}"), self.waits[name][0]) for name in self.scripts]
 
     def look_ahead(self):
         """For each number of steps done: what was used, what is to come, what is compared."""
         steps = self.steps
         stands = range(len(steps) + 1)
-        self.used = [used_by_slot(list(pairs_used(steps[:at]))) for at in stands]
+        self.used = [used_by_slot(pairs_used(steps[:at])) for at in stands]
         self.to_come = [{pair: True for pair in pairs_used(steps[at:])} for at in stands]
-        self.slots_coming = [{slot: True for slot, _ in pairs_used(steps[at:])} for at in stands]
+        self.slots_coming = [{slot: True for slot, _ in coming} for coming in self.to_come]
+        # What is still to be used of slots that are still to be read.
+        reads = {words[1]: at for at, words in enumerate(steps) if words[0] == "read"}
+        self.unread = [{pair: True for pair in self.to_come[at] if reads[pair[0]] >= at} for at in stands]
+        self.slots_unread = [{slot: True for slot, _ in unread} for unread in self.unread]
         checks = [words for words in steps if words[0] == "same"]
         self.compared = [{words[1]: True for words in checks if words[1] < at <= words[2]}
                          for at in stands]
