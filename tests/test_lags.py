@@ -8,6 +8,7 @@ from unfooled.errors import NoName
 from unfooled.lags import lag, lag_road
 from unfooled.moments import lags_of
 from unfooled.stage import play
+from unfooled.watched import beginning, led_on
 
 
 def great(told):
@@ -89,6 +90,40 @@ class Lags(unittest.TestCase):
         for seed in range(6):
             design = helped_design(random.Random(seed), seed % 3 == 0)
             self.check_roads(design, design.readers[0].name)
+
+    def by_standings(self, design, name, cap):
+        """The greatest lag, at most `cap`, by all that led_on tells ([36])."""
+        texts = design.reader(name).texts
+        last = max([-1] + [at for at, text in enumerate(texts) if text.split(" ")[0] in ("use", "look", "num")])
+        rows, rowed, found = [(beginning(design, name), 0)], {}, None
+        known = {rows[0]}
+        for standing, so_far in rows:
+            if standing not in rowed:
+                rowed[standing] = led_on(design, name, standing)
+            for _, behind, harms, words in rowed[standing]:
+                if ("accepted" in words and standing[5][5] == "fine" and "torn" not in harms
+                        and "used" not in harms):
+                    found = max(found or 0, so_far)
+                counts = standing[5][0] <= last and "over" in words and (so_far or "gone" in words)
+                after = 0 if "again" in words else min(cap, so_far + 1) if counts else so_far
+                if behind is not None and (behind, after) not in known:
+                    known.add((behind, after))
+                    rows.append((behind, after))
+        return found
+
+    def test_lags_by_standings(self):
+        found = set()
+        for seed in range(200):
+            rng = random.Random(seed)
+            design = overs_design(rng) if seed % 5 == 0 else random_design(rng, 6, 5)
+            if seed % 5 == 1:
+                design = random_design(rng, 5, 5, "ages")
+            for reader in design.readers:
+                told = lag(design, reader.name)
+                self.assertEqual(self.by_standings(design, reader.name, 4), min(4, great(told)), str(design))
+                found.add(told)
+        self.assertLessEqual({0, "endless"}, found)
+        self.assertTrue({1, 2} & found)
 
     def test_no_lag_is_left_out(self):
         """Lags of random histories are never greater than the greatest one."""

@@ -25,20 +25,30 @@ class Graph:
         return self.by_text
 
 
-def explored(plan):
+def explored(plan, is_useful):
+    """The graph of the standings that a function (of plan and standing) lets be gone on from; of
+    the others no number is told."""
     first = first_standing(plan)
     standings = [first]
     numbers = {first: 0}
     rows = []
     while len(rows) < len(standings):
         row = []
-        for label, behind, harms, words in moves(plan, standings[len(rows)]):
+        standing = standings[len(rows)]
+        for label, behind, harms, words in moves(plan, standing):
             if behind is not None and behind not in numbers:
-                numbers[behind] = len(standings)
-                standings.append(behind)
+                if is_useful(plan, behind):
+                    numbers[behind] = len(standings)
+                    standings.append(behind)
+                else:
+                    numbers[behind] = None
             row.append((label, None if behind is None else numbers[behind], harms, words))
         rows.append(row)
     return Graph(standings, rows)
+
+
+def is_any(plan, standing):
+    return True
 
 
 def graph_of(design, name):
@@ -47,7 +57,7 @@ def graph_of(design, name):
     graphs = design.memory.graphs
     if name in graphs:
         return graphs[name]
-    graph = explored(plan)
+    graph = explored(plan, is_any)
     if len(graph.standings) <= KEPT:
         graphs[name] = graph
     return graph

@@ -1,44 +1,51 @@
 """How far behind a reading can be."""
 
+from unfooled.changing import is_gone
 from unfooled.frontier import Frontier, cost_behind
-from unfooled.graph import graph_of
+from unfooled.graph import explored
+from unfooled.plan import Plan
 from unfooled.readers import TELLING
 from unfooled.rings import longest_way
 from unfooled.telling import history_of
 
 
+def can_be_right(plan, standing):
+    """Whether a run can still come to be accepted and not torn: as soon as something of it has
+    gone, no moment to come has all, so one that was has to have it."""
+    run = standing[5]
+    return run[5] == "fine" and (run[4] or not is_gone(plan, standing[2], run))
+
+
 class Readings:
-    """The graph of a watched reader, and which of its moves count for lags."""
+    """The standings of a reader who can come to be right, and which moves count for lags.
+
+    What a rejected run leaves behind only hinders: so a run that is rejected is at its end here.
+    """
 
     def __init__(self, design, reader):
-        graph = graph_of(design, reader.name)
-        self.graph = graph
-        # The last step that tells something; none of a try counts behind it.
+        self.graph = explored(Plan(design, reader, (), False), can_be_right)
+        # The last step that tells something; none counts behind it.
         self.last = max([-1, *[at for at, text in enumerate(reader.texts) if text.split(" ")[0] in TELLING]])
-        self.done = [standing[5][0] for standing in graph.standings]
-        self.ends = [number for number in range(len(graph.rows))
-                     if any([self.is_good_end(number, move) for move in graph.rows[number]])]
-
-    def is_good_end(self, number, move):
-        """Whether a move ends a run that is accepted and not torn."""
-        return ("accepted" in move[3] and "torn" not in move[2] and "used" not in move[2]
-                and self.graph.standings[number][5][5] == "fine")
+        self.done = [standing[5][0] for standing in self.graph.standings]
+        self.ends = [number for number, row in enumerate(self.graph.rows)
+                     if any([is_good_end(move) for move in row])]
 
     def counts_on(self, number, move):
-        """Whether a move stays in its try, ahead of the last telling step or by it."""
-        return move[1] is not None and "again" not in move[3] and self.done[number] <= self.last
+        """Whether a move is done as the last telling step is still to come, and goes on."""
+        return move[1] is not None and self.done[number] <= self.last
 
     def coming_to_ends(self):
-        """The nodes from which a good end can be come to in the same try."""
+        """The nodes from which a good end can be come to."""
         ahead = [[] for _ in self.graph.rows]
         for number, row in enumerate(self.graph.rows):
-            for _, behind, _, words in row:
-                if behind is not None and "again" not in words:
+            for _, behind, _, _ in row:
+                if behind is not None:
                     ahead[behind].append(number)
         found = {number: True for number in self.ends}
         rows = list(self.ends)
         while rows != []:
-            for number in ahead[rows.pop()]:
+            node = rows.pop()
+            for number in ahead[node]:
                 if number not in found:
                     found[number] = True
                     rows.append(number)
@@ -60,6 +67,11 @@ class Readings:
         return found
 
 
+def is_good_end(move):
+    """Whether a move ends a run that is accepted and not torn."""
+    return "accepted" in move[3] and "torn" not in move[2] and "used" not in move[2]
+
+
 def lag(design, name):
     readings = Readings(design, design.reader(name))
     if readings.ends == []:
@@ -75,8 +87,6 @@ def lag(design, name):
 
 def lag_behind(readings, number, move, so_far, many):
     """How many updates count behind a move, of `many` that are enough."""
-    if "again" in move[3]:
-        return 0
     if not readings.counts_on(number, move) or "over" not in move[3]:
         return so_far
     if so_far == 0 and "gone" not in move[3]:
@@ -94,7 +104,7 @@ def lag_road(design, name, many):
     while node >= 0:
         number, so_far = frontier.nodes[node]
         for move in readings.graph.rows[number]:
-            if so_far >= many and readings.is_good_end(number, move):
+            if so_far >= many and is_good_end(move):
                 _, way = frontier.way_to(node)
                 way = [(standings[one], label) for (one, _), label in [*way, ((number, so_far), move[0])]]
                 return history_of(design, [(reader.name, way)])

@@ -157,7 +157,8 @@ def starts_of(question):
     known = {rows[0]: True}
     found = []
     while rows != []:
-        for _, behind, _ in stand_moves(question, rows.pop()):
+        stand = rows.pop()
+        for _, behind, _ in stand_moves(question, stand):
             if behind in known:
                 continue
             known[behind] = True
