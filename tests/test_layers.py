@@ -7,6 +7,7 @@ from tests.values import any_values, home, raised
 from unfooled.errors import NoName, NoStep
 from unfooled.layers import layer_paper, layers_hold, put_layers_hold, put_paper
 from unfooled.stage import play
+from unfooled.stands import question_of, stand_moves, starts_of
 from unfooled.turnroads import put_road, turn_road
 from unfooled.turns import is_in, numbers_told, puts_amid, turns_amid
 
@@ -90,6 +91,49 @@ class Layers(unittest.TestCase):
             self.assertIs(asked.holds(told, (lots + lots[back:], back)), True)
             if any(with_number(told, number, True) != told for number in range(back)):
                 self.assertIs(asked.holds(told, (lots, len(lots))), False)
+
+    def is_paper(self, asked, told, lots, back):
+        """Whether lots of stands are closed, and bar what is not told, word by word."""
+        question = question_of(asked.design, "r", asked.at, "same" if asked.is_same else "look")
+        by = len(lots) - back
+        if not set(starts_of(question)) <= set(lots[0]):
+            return False
+        for at, lot in enumerate(lots):
+            after = lots[at + 1] if at + 1 < len(lots) else lots[back]
+            for stand in lot:
+                if not all(behind in (after if is_turn else lot)
+                           for _, behind, is_turn in stand_moves(question, stand)):
+                    return False
+            if any(question.is_asked(stand) for stand in lot):
+                if not all(is_in(told, at + by * many) for many in range(120 if at >= back else 1)):
+                    return False
+        return True
+
+    def test_just_those_that_are_closed(self):
+        """Papers in which lots are mixed, left out, put together, or come round otherwise."""
+        found = {True: 0, False: 0}
+        for rng, asked in all_asked(range(120)):
+            lots, back = asked.paper
+            for number in range(8):
+                rows = [set(lot) for lot in lots]
+                for _ in range(rng.randint(0, 2)):
+                    at, other = rng.randrange(len(rows)), rng.randrange(len(rows))
+                    change = rng.choice(["swap", "join", "leave", "copy"])
+                    if change == "swap":
+                        rows[at], rows[other] = rows[other], rows[at]
+                    elif change == "join":
+                        rows[at] = rows[at] | rows[other]
+                    elif change == "copy":
+                        rows.insert(at, rows[other])
+                    elif len(rows) > 1:
+                        del rows[at]
+                value = tuple(tuple(rng.sample(sorted(row), len(row))) for row in rows)
+                place = rng.choice([min(back, len(value) - 1), rng.randrange(len(value))])
+                told = rng.choice([asked.told, ((), 0, 1, (0,)), with_number(asked.told, rng.randint(0, 3), True)])
+                holds = self.is_paper(asked, told, value, place)
+                self.assertIs(asked.holds(told, (value, place)), holds)
+                found[holds] += 1
+        self.assertGreater(min(found.values()), 100)
 
     def test_papers_that_are_spoilt(self):
         for rng, asked in all_asked(range(40)):

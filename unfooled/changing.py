@@ -3,15 +3,13 @@
 
 def touch(plan, run, pairs):
     """The run as memory has other contents at these pairs (slot, part)."""
-    at, reads, looks, answers, past, word, touched = run
-    unread = plan.unread[at]
-    kept = past and not any([pair in unread for pair in pairs])
-    more = [pair for pair in pairs if pair in plan.touchable and pair not in touched]
-    if kept == past and more == []:
+    unread = plan.unread[run[0]]
+    is_lost = run[4] and any([pair in unread for pair in pairs])
+    more = [pair for pair in pairs if pair in plan.touchable and pair not in run[6]]
+    if not is_lost and more == []:
         return run
-    if more != []:
-        touched = tuple(sorted([*touched, *more]))
-    return at, reads, looks, answers, kept, word, touched
+    at, reads, looks, answers, past, word, touched = run
+    return at, reads, looks, answers, past and not is_lost, word, tuple(sorted([*touched, *more]))
 
 
 def change(plan, slots, run, cell, parts):

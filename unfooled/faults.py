@@ -55,9 +55,15 @@ def faults_of(design, name):
     return tuple([harm for harm in HARMS if road_for(design, reader, harm) is not None])
 
 
+def happens_to_some(design, harm):
+    for reader in design.readers:
+        if road_for(design, reader, harm) is not None:
+            return True
+    return False
+
+
 def faults(design):
-    return tuple([harm for harm in HARMS
-                  if any([road_for(design, reader, harm) is not None for reader in design.readers])])
+    return tuple([harm for harm in HARMS if happens_to_some(design, harm)])
 
 
 def story(design, name, harm):

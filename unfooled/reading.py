@@ -11,9 +11,12 @@ def drain_moves(plan, standing):
     going, places, slots, counts, seen, run = standing
     if seen[1] == ():
         return []
-    going, seen = shown_behind(going, (seen[0], seen[1][1:], seen[2]), seen[1][0])
+    store = seen[1][0]
+    going, seen = shown_behind(going, (seen[0], seen[1][1:], seen[2]), store)
     behind = (going, places, slots, counts, seen, run)
-    return [(DRAIN, renumbered(plan, behind), (), ())]
+    if store[0] == "mark":
+        behind = renumbered(plan, behind)
+    return [(DRAIN, behind, (), ())]
 
 
 def shown_behind(going, seen, store):
