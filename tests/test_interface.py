@@ -1,0 +1,77 @@
+"""What the interface lists stands in the files that it names, with these arguments."""
+
+import ast
+import os
+import random
+import unittest
+
+import unfooled
+from tests.making import random_design
+from unfooled.designs import Design
+from unfooled.faults import faults, faults_of, fewest
+from unfooled.lags import lag
+from unfooled.papers import certificate
+
+FOLDER = os.path.dirname(unfooled.__file__)
+LISTED = """
+alone: after(design, names), rows_apart(design, names, others)
+alike: asks(reader), idle(reader), reason(reader, at), reason_holds(reader, at, value)
+alike: refusing_answers(reader, at), trimmed(reader), soonest(reader), accepts_same(one, other)
+alike: parting_answers(one, other), no_later(one, other)
+stage: play(design, events), possible(design, events)
+watched: beginning(design, name), led_on(design, name, standing)
+faults: happens(design, name, harm), faults_of(design, name), faults(design), story(design, name, harm)
+faults: fewest(design, name, harm)
+papers: certificate(design, name, harm), certifies(design, name, harm, value), is_standing(design, name, value)
+faces: safe_face(design), whole_face(design), joint(design, name)
+moments: moments(design, events), over_now(design, events), stretch(design, events, place)
+moments: fits(design, events, used), bar(design, events, used), bar_holds(design, events, used, value)
+moments: judged(design, events), counted(design, events), backs(design, events)
+moments: told_in_order(design, events), lags_of(design, events)
+lags: lag(design, name), lag_road(design, name, many)
+turns: greatest_in(told), is_in(told, number), numbers_told(some, tail, period, rests)
+turns: puts_amid(design, name, at), turns_amid(design, name, at)
+layers: layer_paper(design, name, at), layers_hold(design, name, at, told, value)
+layers: put_layers_hold(design, name, at, told, value), put_paper(design, name, at)
+turnroads: put_road(design, name, at, number), turn_road(design, name, at, number)
+rounds: fooled_checks(design, name), is_safe_round(told, by), least_round(told), least_rounds(design)
+rounds: safe_rounds(told), with_least_rounds(design)
+heaps: empty_pile(design), piles_within(design, pile, name), pile_after(design, pile, name), heap(design)
+heaps: heap_road(design, most), growing(design), growth(design, name), heap_paper(design, most)
+heaps: heap_holds(design, most, value), soonest_back(design, slot), soonest_back_road(design, slot)
+stays: shown(design, name, at), stay(design, name, at), all_stays(design, name), easy(design)
+stays: kept(design, name), heap_by(design, many)
+"""
+
+
+def listed():
+    """Rows (file, what it has to define)."""
+    for line in LISTED.strip().split("\n"):
+        file, texts = line.split(": ")
+        for text in texts.split("), "):
+            yield file, text.rstrip(")") + ")"
+
+
+class Interface(unittest.TestCase):
+    def test_functions(self):
+        for file, text in listed():
+            with open(os.path.join(FOLDER, file + ".py"), encoding="utf-8") as told:
+                tree = ast.parse(told.read())
+            found = [f"{node.name}({ast.unparse(node.args)})" for node in tree.body
+                     if isinstance(node, ast.FunctionDef)]
+            self.assertIn(text, found, file)
+
+    def test_results_do_not_hang_on_calls_between(self):
+        """What is kept of a design changes nothing that is told."""
+        for seed in range(40):
+            design = random_design(random.Random(seed), reader_steps=5)
+            calls = [lambda one, name=reader.name, work=work: work(one, name)
+                     for reader in design.readers for work in (faults_of, lag)]
+            calls += [lambda one, name=reader.name, harm=harm, work=work: work(one, name, harm)
+                      for reader in design.readers for harm in ("early", "fooled", "torn", "used")
+                      for work in (fewest, certificate)] + [faults]
+            random.Random(seed).shuffle(calls)
+            told = [call(Design.read(str(design))) for call in calls]
+            self.assertEqual([call(design) for call in calls], told)
+            self.assertEqual([call(design) for call in reversed(calls)], told[::-1])
+            self.assertEqual(design, Design.read(str(design)))
