@@ -8,7 +8,7 @@ import unittest
 import unfooled
 from tests.making import random_design
 from unfooled.designs import Design
-from unfooled.faults import faults, faults_of, fewest
+from unfooled.faults import faults, faults_of, fewest, story
 from unfooled.lags import lag
 from unfooled.papers import certificate
 
@@ -69,7 +69,7 @@ class Interface(unittest.TestCase):
                      for reader in design.readers for work in (faults_of, lag)]
             calls += [lambda one, name=reader.name, harm=harm, work=work: work(one, name, harm)
                       for reader in design.readers for harm in ("early", "fooled", "torn", "used")
-                      for work in (fewest, certificate)] + [faults]
+                      for work in (fewest, story, certificate)] + [faults]
             random.Random(seed).shuffle(calls)
             told = [call(Design.read(str(design))) for call in calls]
             self.assertEqual([call(design) for call in calls], told)
