@@ -47,7 +47,7 @@ def explored(plan, is_useful):
     return Graph(standings, rows)
 
 
-def is_any(plan, standing):
+def every_one(plan, standing):
     return True
 
 
@@ -57,7 +57,7 @@ def graph_of(design, name):
     graphs = design.memory.graphs
     if name in graphs:
         return graphs[name]
-    graph = explored(plan, is_any)
+    graph = explored(plan, every_one)
     if len(graph.standings) <= KEPT:
         graphs[name] = graph
     return graph
