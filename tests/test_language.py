@@ -167,6 +167,26 @@ class Language(unittest.TestCase):
                     self.assertTrue(isinstance(above, (ast.For, ast.comprehension))
                                     or outer in ("list", "dict", "tuple", "sorted"), (name, node.lineno))
 
+    def test_stars_stand_over_no_views(self):
+        for name, node in self.nodes(ast.Starred):
+            called = getattr(node.value, "func", None)
+            self.assertNotIn(getattr(called, "attr", ""), ("items", "keys", "values"), (name, node.lineno))
+
+    def test_local_names_hide_nothing(self):
+        for name, (_, tree) in self.trees.items():
+            self.assertEqual(own_names(tree) & set(bound_at_top(tree)), set(), name)
+
+    def test_loops_change_nothing_that_they_go_over(self):
+        for name, node in self.nodes(ast.For):
+            over = {ast.unparse(one) for one in ast.walk(node.iter)
+                    if isinstance(one, (ast.Name, ast.Attribute, ast.Subscript))}
+            for one in ast.walk(ast.Module(node.body, [])):
+                if isinstance(one, ast.Call) and isinstance(one.func, ast.Attribute):
+                    if one.func.attr in ("append", "pop", "remove", "insert", "extend", "clear", "update"):
+                        self.assertNotIn(ast.unparse(one.func.value), over, (name, one.lineno))
+                if isinstance(one, ast.Subscript) and isinstance(one.ctx, ast.Store):
+                    self.assertNotIn(ast.unparse(one.value), over, (name, one.lineno))
+
     def test_tables_are_only_read(self):
         for name, (_, tree) in self.trees.items():
             tables = [node.targets[0].id for node in tree.body if isinstance(node, ast.Assign)

@@ -78,4 +78,4 @@ def longest_way(edges):
                     return None
                 if place[behind] != number:
                     best[number] = max(best[number], weight + best[place[behind]])
-    return max([0, *best.values()])
+    return max(best.values(), default=0)
