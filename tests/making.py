@@ -1,7 +1,9 @@
 """Random designs and histories for the tests (a seed of its own for each)."""
 
+import itertools
 import random
 
+from unfooled.buffers import places
 from unfooled.designs import Design
 from unfooled.errors import LookError
 from unfooled.kinds import Kind
@@ -216,3 +218,63 @@ def checks_of(reader):
     """The numbers of a reader's checks `same` and `look`, with the words."""
     return [(at, text.split(" ")[0]) for at, text in enumerate(reader.texts)
             if text.split(" ")[0] in ("same", "look")]
+
+
+# Designs that are nearly right: with stores that take effect at once harms are kept off.
+NEARLY = (
+    (["take, write p, put s, aside, wait, give 0"], ["enter, read s, use s p, leave"]),
+    (["take, write p, put s, aside, wait, give 0"], ["enter, read s, use s p, leave", "read s, look s"]),
+    (["take, put s, aside, wait, give 0"], ["enter, leave, enter, read s, use s p, leave"]),
+    (["take, write p, put s, aside, move, give 1"], ["enter, read s, use s p, leave"]),
+    (["take, put s, aside, try, give 2"], ["enter, read s, use s p, leave"]),
+    (["take, put s, aside, give 0 free"], ["read s, mark h s, look s, use s p, clear h"]),
+    (["take, put s, aside, give 0 free"], ["read s, mark h s, look s, use s p, use s p"]),
+    (["bump c, over s p, over s q, bump c"], ["num c, even 0, read s, use s p, use s q, num c, same 0 5"]),
+    (["take, put s, wait, aside, wait, give 0"], ["enter, read s, use s p, use s p, leave"]),
+)
+
+
+def near_design(rng, most_steps=6, reader_steps=7):
+    """A design that is nearly right, some steps being put in or left out."""
+    while True:
+        kinds, readers = rng.choice(NEARLY)
+        scripts = [Kind(name, texts.split(", ")) for name, texts in zip("kl", kinds)]
+        scripts += [Reader(name, texts.split(", "), rng.choice(["once", "again"]))
+                    for name, texts in zip("rn", readers)]
+        for at, script in enumerate(scripts):
+            for _ in range(rng.choice([0, 0, 1, 2])):
+                place = rng.randrange(len(script))
+                more = rng.choice(["fence", "wait", "write p", "over s p"] if isinstance(script, Kind)
+                                  else ["fence", "use s p", "look s", "leave", "enter"])
+                try:
+                    script = script.without(place) if rng.random() < 0.2 else script.with_more(place, more)
+                except LookError:
+                    pass
+            scripts[at] = script
+        design = Design(["s"], ["p", "q"], [one for one in scripts if isinstance(one, Kind)],
+                        [one for one in scripts if isinstance(one, Reader)], [("c", 4)], [],
+                        rng.choice([(0, 0), (1, 1), (1, 0), (0, 1)]), rng.choice(["any", "any", "any", "never"]))
+        if (is_within_limits(design) and max(map(len, design.kinds)) <= most_steps
+                and max(map(len, design.readers)) <= reader_steps):
+            return design
+
+
+def fence_design(rng, most=5, least=1):
+    """A design in which stores wait, with some places for fences."""
+    while True:
+        design = near_design(rng)
+        if rng.random() < 0.3:
+            design = random_design(rng, reader_steps=5, flavour=rng.choice(["ages", "mixed", "marks"]))
+        design = design.with_rooms(rng.choice([(1, 1), (1, 1), (1, 0), (0, 1)]))
+        if least <= len(places(design)) <= most:
+            return design
+
+
+def all_parts(things):
+    """All parts of some ascending things as tuples, shorter ones first, then ascending."""
+    return [lot for many in range(len(things) + 1) for lot in itertools.combinations(things, many)]
+
+
+def least_of(lots):
+    """Those lots of which no proper part is one of them."""
+    return tuple(lot for lot in lots if not any(set(one) < set(lot) for one in lots))

@@ -7,10 +7,12 @@ import unittest
 
 import unfooled
 from tests.making import random_design
+from unfooled.again import grade, height_paper, rejected_road, rejections
 from unfooled.designs import Design
 from unfooled.faults import faults, faults_of, fewest, story
 from unfooled.lags import lag
 from unfooled.papers import certificate
+from unfooled.spares import most_steps, tries_needed
 
 FOLDER = os.path.dirname(unfooled.__file__)
 LISTED = """
@@ -41,6 +43,17 @@ heaps: heap_road(design, most), growing(design), growth(design, name), heap_pape
 heaps: heap_holds(design, most, value), soonest_back(design, slot), soonest_back_road(design, slot)
 stays: shown(design, name, at), stay(design, name, at), all_stays(design, name), easy(design)
 stays: kept(design, name), heap_by(design, many)
+buffers: places(design), rooms_enough(design)
+fences: fenced(design, lot), is_clear(design, harms), is_fenced(design, harms, lot), least_fences(design, harms)
+fences: fence_cuts(design, harms), fence_paper(design, harms, lot), fence_paper_holds(design, harms, lot, value)
+lean: droppable(design, name), dropped(design, name, numbers), needless(design, name, harms)
+lean: lean_lots(design, name, harms), kept_off(design, name, number, harms)
+lean: kept_off_holds(design, name, number, harms, value)
+again: grade(design, reader), gets_on(design, reader), most_rejected(design, reader, updates)
+again: rejected_road(design, reader, updates), rejections(design, reader), height_paper(design, reader)
+again: heights_hold(design, reader, pair, value), ring_road(design, reader, times)
+spares: is_sure(design, reader, tries), most_steps(design, reader, tries), tries_needed(design, reader)
+spares: longest_rejected(design, reader)
 """
 
 
@@ -70,6 +83,10 @@ class Interface(unittest.TestCase):
             calls += [lambda one, name=reader.name, harm=harm, work=work: work(one, name, harm)
                       for reader in design.readers for harm in ("early", "fooled", "torn", "used")
                       for work in (fewest, story, certificate)] + [faults]
+            calls += [lambda one, name=reader.name, work=work: work(one, name)
+                      for reader in design.readers for work in (grade, rejections, height_paper, tries_needed)]
+            calls += [lambda one, name=reader.name, work=work: work(one, name, 2)
+                      for reader in design.readers for work in (rejected_road, most_steps)]
             random.Random(seed).shuffle(calls)
             told = [call(Design.read(str(design))) for call in calls]
             self.assertEqual([call(design) for call in calls], told)

@@ -12,7 +12,7 @@ def roads_of(design, reader):
     """The roads to the harms of a reader, but back."""
     roads = design.memory.roads
     if reader.name not in roads:
-        roads[reader.name] = Roads(design, reader)
+        roads[reader.name] = Roads(design, reader, HARMS)
     return roads[reader.name]
 
 

@@ -13,5 +13,8 @@ class Memory:
         # Least roads to the harms but back, by harms; and roads to the harm back, None for none.
         self.roads = {}
         self.ways_back = {}
+        # The design in which the reader's word is again; all standings and moves, uses left aside.
+        self.again = {}
+        self.retries = {}
         # The seats of those who come as a run of this reader was early.
         self.seats = {}

@@ -12,6 +12,11 @@ def steps_of(script):
     return tuple([tuple([told_word(word) for word in text.split(" ")]) for text in script.texts])
 
 
+def without_uses(steps):
+    """The steps with others, which do nothing, in the place of each use."""
+    return tuple([("rest",) if words[0] == "use" else words for words in steps])
+
+
 def pairs_used(steps):
     """The lot of the pairs (slot, part) of the steps use."""
     return tuple(sorted(set([words[1:] for words in steps if words[0] == "use"])))
@@ -45,10 +50,11 @@ class Plan:
     """A watched reader beside the updates of a design.
 
     `more` are further pairs (slot, part) of which is told whether they are touched (for those who
-    come later); `is_again` is whether the reader begins anew when it is rejected.
+    come later); `is_again` is whether the reader begins anew when it is rejected; with `is_bare`
+    its uses are left aside: what it sees of the house does not hang on them.
     """
 
-    def __init__(self, design, reader, more, is_again):
+    def __init__(self, design, reader, more, is_again, is_bare=False):
         self.slots = design.slots
         self.places = {slot: at for at, slot in enumerate(design.slots)}
         self.counters = design.counters
@@ -61,7 +67,7 @@ class Plan:
         self.enters = some_enters(design.readers)
         self.marked_slots = slots_marked(design.readers)
         self.oldest = oldest_given(design.kinds)
-        self.steps = steps_of(reader)
+        self.steps = without_uses(steps_of(reader)) if is_bare else steps_of(reader)
         self.is_again = is_again
         self.pairs = pairs_used(self.steps)
         self.touchable = {pair: True for pair in [*more, *(self.pairs if is_again else ())]}

@@ -10,6 +10,7 @@ FORMS = {"enter": (), "leave": (), "mark": ("mark", "slot"), "clear": ("mark",),
 WORDS = ("once", "again")
 COMPARING = ("same", "even")
 STORES = ("enter", "leave", "mark", "clear")
+CHECKS = ("look", "same", "even")
 # The steps that look at the world and tell something of it.
 TELLING = ("use", "look", "num")
 

@@ -45,16 +45,16 @@ class Chances:
 
 
 class Roads:
-    """Least roads to the harms of a reader, but back, looked for only as far as they are asked.
+    """Least roads to some harms of a reader, but back, looked for only as far as they are asked.
 
     `found` has for each harm that was met a road: (updates that begin, legs).
     """
 
-    def __init__(self, design, reader):
+    def __init__(self, design, reader, harms):
         self.name = reader.name
         self.plan = Plan(design, reader, (), False)
         self.chances = Chances(self.plan, design.kinds)
-        self.wanted = list(self.chances.harms)
+        self.wanted = [harm for harm in self.chances.harms if harm in harms]
         self.found = {}
         self.frontier = Frontier()
         self.frontier.offer(first_standing(self.plan), 0, -1, None)
@@ -64,6 +64,12 @@ class Roads:
         while harm in self.wanted:
             self.go_on()
         return self.found.get(harm)
+
+    def first_met(self):
+        """The harm that is met first of those that are wanted, or None."""
+        while self.wanted != [] and self.found == {}:
+            self.go_on()
+        return min(self.found, default=None)
 
     def go_on(self):
         """Lead on the next standing."""

@@ -58,6 +58,8 @@ class Teller:
         self.wanted = [[] for _ in self.rows]
         # For each row the numbers of the helpers that are needed there.
         self.helpers = [[] for _ in self.rows]
+        # For each row how many events were told ahead of it.
+        self.marks = []
 
     def want_helpers(self):
         for at, (_, standing, label) in enumerate(self.rows):
@@ -192,6 +194,7 @@ class Teller:
             if number != leg:
                 leg = number
                 self.watched = self.start(self.legs[leg][0])
+            self.marks.append(len(self.told))
             for word, slot, row in self.wanted[at]:
                 self.make_ready(word, slot, row)
             self.use_helpers(at, label)
@@ -207,3 +210,13 @@ class Teller:
 
 def history_of(design, legs):
     return Teller(design, legs).tell_all()
+
+
+def history_with_marks(design, name, way):
+    """The history of one watched reader, the first one that comes, and for each row of its way how
+    many events are ahead of it; and of all at last."""
+    if way == []:
+        return (f"start {name}",), (1,)
+    teller = Teller(design, [(name, way)])
+    events = teller.tell_all()
+    return events, (*teller.marks, len(events))
