@@ -6,6 +6,7 @@ import random
 from unfooled.buffers import places
 from unfooled.designs import Design
 from unfooled.errors import LookError
+from unfooled.joins import joined
 from unfooled.kinds import Kind
 from unfooled.readers import Reader
 from unfooled.scene import Scene, event_words
@@ -278,3 +279,54 @@ def all_parts(things):
 def least_of(lots):
     """Those lots of which no proper part is one of them."""
     return tuple(lot for lot in lots if not any(set(one) < set(lot) for one in lots))
+
+
+def renamed(design, names):
+    """The same design with other names of slots, counters, kinds and readers."""
+    lines = []
+    for line in str(design).split("\n"):
+        words = []
+        for word in line.replace(",", " ,").replace(":", " :").split(" "):
+            words.append(names.get(word, word))
+        lines.append(" ".join(words).replace(" ,", ",").replace(" :", ":"))
+    return Design.read("\n".join(lines))
+
+
+OTHER_NAMES = {"s": "x", "t": "y", "c": "d", "k": "m", "l": "n", "r": "v", "n": "w", "o": "z"}
+
+
+def one_slot_design(rng, reader_steps=5):
+    """A design with one slot that can be joined with another one."""
+    while True:
+        if rng.random() < 0.5:
+            design = near_design(rng, 6, 6)
+        else:
+            design = random_design(rng, most_steps=5, reader_steps=reader_steps)
+        if len(design.slots) == 1:
+            return design
+
+
+def joining_pair(rng):
+    """Two designs that can be joined; within the limits of joined ones."""
+    while True:
+        one = one_slot_design(rng)
+        other = renamed(one_slot_design(rng), OTHER_NAMES).with_rooms(one.rooms).with_reuse(one.reuse)
+        if rng.random() < 0.7:
+            one, other = one.with_rooms((one.rooms[0], 0)), other.with_rooms((one.rooms[0], 0))
+        frees = any(text.endswith("free") for kind in one.kinds + other.kinds for text in kind.texts)
+        tries = any("try" in kind.texts for kind in one.kinds + other.kinds)
+        if len(one.counters) + len(other.counters) > 1 or len(one.wide) + len(other.wide) > 1:
+            one, other = without_numbers(one), without_numbers(other)
+        if one is None or other is None or frees and tries:
+            continue
+        if frees and one.reuse == "any" and not marks_all_slots(joined(one, other)):
+            continue
+        if max(len(reader) for reader in one.readers + other.readers) <= 6:
+            return one, other
+
+
+def without_numbers(design):
+    """The design without counters and stamps, None if its scripts speak of them."""
+    if design is None or any(script.counters for script in design.kinds + design.readers):
+        return None
+    return design.with_rounds([]).with_wide([])

@@ -172,6 +172,18 @@ class Language(unittest.TestCase):
             called = getattr(node.value, "func", None)
             self.assertNotIn(getattr(called, "attr", ""), ("items", "keys", "values"), (name, node.lineno))
 
+    def test_views_stand_in_no_tests(self):
+        for name, node in self.nodes(ast.Compare):
+            for right in node.comparators:
+                called = getattr(getattr(right, "func", None), "attr", "")
+                self.assertNotIn(called, ("items", "values"), (name, node.lineno))
+
+    def test_plain_arguments_behind_a_star(self):
+        for name, node in self.nodes(ast.Call):
+            stars = [at for at, one in enumerate(node.args) if isinstance(one, ast.Starred)]
+            for one in node.args[stars[0] + 1:] if stars else []:
+                self.assertIsInstance(one, (ast.Name, ast.Constant, ast.Attribute), (name, node.lineno))
+
     def test_local_names_hide_nothing(self):
         for name, (_, tree) in self.trees.items():
             self.assertEqual(own_names(tree) & set(bound_at_top(tree)), set(), name)

@@ -53,7 +53,7 @@ def most_waiting(reader):
             return None
         if word in CHECKS:
             left = max(left, waiting[at])
-    return max(*waiting, left + waiting[first_fence])
+    return max([*waiting, left + waiting[first_fence]])
 
 
 def rooms_enough(design):

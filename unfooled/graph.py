@@ -18,10 +18,10 @@ class Graph:
         self.by_text = {}
 
     def all_texts(self):
-        """The texts of all standings: texts of plain values are the same just if the values are
-        alike, a bool and a number, a list and a tuple being unlike."""
+        """The texts of all standings with their numbers: texts of plain values are the same just if
+        the values are alike, a bool and a number, a list and a tuple being unlike."""
         if self.by_text == {}:
-            self.by_text = {repr(standing): True for standing in self.standings}
+            self.by_text = {repr(standing): at for at, standing in enumerate(self.standings)}
         return self.by_text
 
 

@@ -16,5 +16,8 @@ class Memory:
         # The design in which the reader's word is again; all standings and moves, uses left aside.
         self.again = {}
         self.retries = {}
+        # What it sees, with and without what it uses; and which standings are good for its try.
+        self.sights = {}
+        self.goods = {}
         # The seats of those who come as a run of this reader was early.
         self.seats = {}
