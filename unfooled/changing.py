@@ -44,9 +44,8 @@ def hang(plan, slots, run, store):
 def turn(plan, counts, run, counter):
     """The counts and the run as a counter turns."""
     place = plan.counters.index(counter)
-    size = plan.sizes[counter]
-    counts = (*counts[:place], (counts[place] + 1) % (2 if size is None else size), *counts[place + 1:])
-    if run[2] == ():
+    counts = (*counts[:place], (counts[place] + 1) % plan.rests[counter], *counts[place + 1:])
+    if run[2] == () or counter not in plan.flagged:
         return counts, run
     looks = tuple([(at, rest, True) if plan.steps[at][1] == counter else (at, rest, is_turned)
                    for at, rest, is_turned in run[2]])

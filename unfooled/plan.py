@@ -59,6 +59,9 @@ class Plan:
         self.places = {slot: at for at, slot in enumerate(design.slots)}
         self.counters = design.counters
         self.sizes = dict(design.rounds)
+        # The rests of the counters that standings tell; whether it counts that they were turned.
+        self.rests = {name: 2 if size is None else size for name, size in design.rounds}
+        self.flagged = {name: True for name in self.rests}
         self.wide = dict(design.wide)
         # Standings tell one store at most; with a greater room it is used as if it were 1.
         self.has_buffer = design.rooms[1] > 0
@@ -81,6 +84,21 @@ class Plan:
         self.scripts = {kind.name: (*steps_of(kind), ()) for kind in kinds}
         self.waits = {name: [words == ("wait",) for words in steps] for name, steps in self.scripts.items()}
         self.begins = [(name, ("update", f"begin {name}"), self.waits[name][0]) for name in self.scripts]
+
+    def leave_aside(self, kinds, is_bare):
+        """Leave aside what this reader cannot see: for standings that are told to nobody. With
+        `is_bare` it is one to it whether a check is fooled."""
+        counted = {words[1]: True for words in self.steps if words[0] == "num"}
+        looked = {words[1]: True for words in self.steps if words[0] == "look"}
+        halved = {self.steps[words[1]][1]: True for words in self.steps if words[0] == "even"}
+        for name, size in self.sizes.items():
+            if name not in counted or size is None and name not in halved:
+                self.rests[name] = 1
+            if is_bare and size is not None:
+                self.flagged.pop(name)
+        self.wide = {slot: size for slot, size in self.wide.items() if slot in looked}
+        # Who shows an elder age counts only where some update tries.
+        self.enters = self.enters and any(["try" in kind.texts for kind in kinds])
 
     def look_ahead(self):
         """For each number of steps done: what was used, what is to come, what is compared."""

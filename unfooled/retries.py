@@ -1,8 +1,9 @@
 """A reader that begins anew when it is rejected: its standings, and what counts between them."""
 
-from unfooled.graph import explored, every_one
+from unfooled.graph import explored
 from unfooled.plan import Plan
 from unfooled.ratios import best_ring, order_without_overs
+from unfooled.readers import CHECKS
 from unfooled.rings import longest_way
 
 
@@ -64,10 +65,17 @@ def steps_back(came, target):
     return found[::-1]
 
 
+def can_be_rejected(plan, standing):
+    """Whether some check is still to come: who has none gets on, whatever comes."""
+    return any([words[0] in CHECKS for words in plan.steps[standing[5][0]:]])
+
+
 def retries_of(design, name):
     """The retries of a reader: what it uses does not count for them."""
     reader = design.reader(name)
     known = design.memory.retries
     if name not in known:
-        known[name] = Retries(explored(Plan(design, reader, (), True, True), every_one))
+        plan = Plan(design, reader, (), True, True)
+        plan.leave_aside(design.kinds, True)
+        known[name] = Retries(explored(plan, can_be_rejected))
     return known[name]

@@ -53,6 +53,7 @@ class Roads:
     def __init__(self, design, reader, harms):
         self.name = reader.name
         self.plan = Plan(design, reader, (), False)
+        self.plan.leave_aside(design.kinds, False)
         self.chances = Chances(self.plan, design.kinds)
         self.wanted = [harm for harm in self.chances.harms if harm in harms]
         self.found = {}

@@ -186,5 +186,8 @@ def sights_of(design, name, is_bare):
     reader = design.reader(name)
     known = design.memory.sights
     if (name, is_bare) not in known:
-        known[(name, is_bare)] = Sights(Plan(design, reader, (), reader.word == "again", is_bare))
+        plan = Plan(design, reader, (), reader.word == "again", is_bare)
+        if is_bare:
+            plan.leave_aside(design.kinds, True)
+        known[(name, is_bare)] = Sights(plan)
     return known[(name, is_bare)]
