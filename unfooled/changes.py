@@ -7,14 +7,14 @@ from unfooled.words import is_number_below
 
 
 def swapped(reader, at):
-    """The reader with a step and the next one in each other's places; checks go along with the
-    steps that they name."""
+    """The reader with a step and the next one in each other's places; numbers in checks go along
+    with their steps, so it is none if a check names both (the lesser number has to stand first)."""
     if not is_number_below(at, len(reader) - 1):
         raise NoStep(at)
     places = {at: at + 1, at + 1: at}
     texts = []
     for text in [*reader.texts[:at], reader.texts[at + 1], reader.texts[at], *reader.texts[at + 2:]]:
-        numbers = sorted([places.get(number, number) for number in numbers_in_check(text)])
+        numbers = [places.get(number, number) for number in numbers_in_check(text)]
         words = text.split(" ")
         texts.append(" ".join([words[0], *[str(number) for number in numbers]]) if numbers != [] else text)
     return Reader(reader.name, texts, reader.word)
