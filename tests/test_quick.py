@@ -4,9 +4,17 @@ import random
 import time
 import unittest
 
-from tests.making import random_design
+from tests.making import joining_pair, random_design
+from unfooled.again import grade, height_paper, most_rejected, rejections
+from unfooled.buffers import places
+from unfooled.changes import breaking
 from unfooled.designs import Design
 from unfooled.faults import faults, faults_of, fewest, happens, story
+from unfooled.fences import fence_cuts
+from unfooled.joins import across
+from unfooled.lean import droppable, lean_lots
+from unfooled.logs import first_known, must_know, next_rows, parting_log
+from unfooled.spares import is_sure, most_steps, tries_needed
 from unfooled.watched import beginning, led_on
 
 HARMS = ("back", "early", "fooled", "torn", "used")
@@ -57,6 +65,27 @@ def ask_all(design):
             fewest(design, reader.name, harm)
 
 
+def ask_more(design):
+    """Questions of the later modules, each of a design that nobody asked before."""
+    def fresh():
+        return Design.read(str(design))
+    name = max(design.readers, key=len).name
+    for work in (grade, rejections, height_paper, tries_needed, breaking):
+        work(fresh(), name)
+    for work in (most_rejected, most_steps, is_sure):
+        work(fresh(), name, 9)
+    for question in (("good",), ("amid",)):
+        first_known(fresh(), name, question)
+        must_know(fresh(), name, (), question)
+    next_rows(fresh(), name, ())
+    parting_log(design, design.with_rooms((design.rooms[0], 1 - design.rooms[1])), name)
+    for harms in (("used",), ("early", "torn")):
+        if len(places(design)) <= 5:
+            fence_cuts(fresh(), harms)
+        if len(droppable(design, name)) <= 5:
+            lean_lots(fresh(), name, harms)
+
+
 def lead_on(design, name, most):
     rows, known = [beginning(design, name)], set()
     for standing in rows:
@@ -81,6 +110,15 @@ class Quick(unittest.TestCase):
         """For each some 100 ms at first, now about one."""
         designs = [random_design(random.Random(seed), reader_steps=6) for seed in range(300)]
         self.assertLess(seconds(lambda: [ask_all(design) for design in designs]), 10)
+
+    def test_later_modules(self):
+        """Some 15 ms for all questions to one design."""
+        designs = [random_design(random.Random(seed), reader_steps=6) for seed in range(60)]
+        self.assertLess(seconds(lambda: [ask_more(design) for design in designs]), 20)
+
+    def test_joined_designs(self):
+        pairs = [joining_pair(random.Random(seed)) for seed in range(60)]
+        self.assertLess(seconds(lambda: [across(one, other) for one, other in pairs]), 6)
 
     def test_standings(self):
         """A call took some 150 microseconds at first, now about ten."""
