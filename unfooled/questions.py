@@ -6,6 +6,8 @@ from unfooled.ways import reached
 
 PLAIN = ("amid", "used", "good")
 OF_SLOTS = ("hangs", "over")
+# Those whose answers hang on what the run used.
+OF_USES = ("used", "good")
 BAD = ("used", "torn")
 
 
@@ -65,8 +67,7 @@ class Answers:
 
     def __init__(self, design, name, question):
         self.question = question
-        # What a run used counts for two questions alone.
-        self.sights = sights_of(design, name, question[0] not in BAD + ("good",))
+        self.sights = sights_of(design, name, question[0] not in OF_USES)
         self.goods = None
         if question == ("good",):
             goods = design.memory.goods
